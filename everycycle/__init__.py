@@ -1,0 +1,1 @@
+"""Everycycle: circuits settled for all runs, with papers."""

@@ -1,0 +1,189 @@
+"""The rules of the language that can be seen in the files of the package, and the interface."""
+
+import ast
+import builtins
+import inspect
+import unittest
+from importlib import import_module
+from pathlib import Path
+
+PACKAGE = Path(__file__).resolve().parent.parent / "everycycle"
+FILES = sorted(PACKAGE.glob("*.py"))
+TREES = {path.stem: ast.parse(path.read_text(encoding="utf-8")) for path in FILES}
+
+INTERFACE = {
+    "errors": {
+        "BadLine": "line, column", "BadNumber": "what, number", "BadRow": "row", "BadName": "name",
+        "BadWidth": "name, wanted, told", "NoName": "name", "TakenName": "name", "Unlike": "what", "Missing": "name",
+        "NotKept": "name, rows",
+    },
+    "texts": {"design_of": "text", "design_text": "design"},
+    "designs": {"check": "design", "width_of": "design, module, expression", "names_in": "expression"},
+}
+BUILTINS = {
+    "len", "range", "enumerate", "zip", "min", "max", "sum", "abs", "sorted", "reversed", "int", "str", "bool", "list",
+    "tuple", "dict", "set", "isinstance", "ord", "repr", "any", "all", "divmod", "ValueError",
+}
+METHODS = set("""
+append clear copy count endswith extend find get index insert isalnum isalpha isdigit islower isspace isupper items join
+keys ljust lower lstrip partition pop remove replace reverse rfind rjust rpartition rsplit rstrip setdefault split
+splitlines startswith strip update upper values zfill bit_length
+""".split())
+NO_NAMES = set("""
+register mro elements open input law version_info with_traceback add_note attrgetter breakpoint compile copyright credits
+delattr dir eval exec exit gc getattr globals hasattr help id importlib license locals methodcaller os quit setattr super
+type vars sys
+""".split())
+STATEMENTS = (
+    ast.Assign, ast.AugAssign, ast.If, ast.While, ast.For, ast.Return, ast.Break, ast.Continue, ast.Pass, ast.Raise,
+    ast.Assert, ast.Delete, ast.Expr, ast.FunctionDef, ast.ClassDef, ast.ImportFrom,
+)
+
+
+def nodes(kind):
+    """All nodes of a kind, with the names of their files."""
+    return [(name, node) for name, tree in TREES.items() for node in ast.walk(tree) if isinstance(node, kind)]
+
+
+def bound_names(tree):
+    """What a file binds at its module level."""
+    found = []
+    for node in tree.body:
+        if isinstance(node, (ast.FunctionDef, ast.ClassDef)):
+            found.append(node.name)
+        elif isinstance(node, ast.Assign):
+            found.extend(target.id for target in node.targets)
+        elif isinstance(node, ast.ImportFrom):
+            found.extend(alias.name for alias in node.names)
+    return found
+
+
+def has_ring(leads):
+    """Whether some name leads back to itself."""
+    left = dict(leads)
+    while left:
+        free = [name for name in left if not [other for other in left[name] if other in left]]
+        if not free:
+            return True
+        for name in free:
+            del left[name]
+    return False
+
+
+class Files(unittest.TestCase):
+    def test_the_folder_holds_nothing_else(self):
+        for path in PACKAGE.iterdir():
+            self.assertTrue(path in FILES or path.name == "__pycache__", path)
+        for path in FILES:
+            self.assertRegex(path.name, r"\A([a-z][a-z0-9_]*|__init__)\.py\Z")
+
+    def test_sizes_and_characters(self):
+        for path in FILES:
+            text = path.read_text(encoding="utf-8")
+            self.assertLessEqual(text.count("\n"), 399, path)
+            self.assertTrue(all(sign == "\n" or " " <= sign <= "~" for sign in text), path)
+            for line in text.split("\n"):
+                self.assertLessEqual(len(line), 120, path)
+                self.assertEqual(line, line.rstrip(), path)
+        for name, node in nodes(ast.FunctionDef):
+            self.assertLessEqual(node.end_lineno - node.lineno + 1, 40, (name, node.name))
+
+    def test_imports(self):
+        for name, node in nodes((ast.Import, ast.ImportFrom)):
+            self.assertIsInstance(node, ast.ImportFrom, name)
+            self.assertEqual(node.level, 0)
+            package, _, stem = node.module.partition(".")
+            self.assertEqual(package, "everycycle", name)
+            defined = [part.name for part in TREES[stem].body if isinstance(part, (ast.FunctionDef, ast.ClassDef))]
+            defined += [target.id for part in TREES[stem].body if isinstance(part, ast.Assign) for target in part.targets]
+            used = [part.id for part in ast.walk(TREES[name]) if isinstance(part, ast.Name)]
+            for alias in node.names:
+                self.assertIsNone(alias.asname)
+                self.assertIn(alias.name, defined, (name, alias.name))
+                self.assertIn(alias.name, used, (name, alias.name))
+        leads = {name: [node.module.partition(".")[2] for stem, node in nodes(ast.ImportFrom) if stem == name] for name in TREES}
+        self.assertFalse(has_ring(leads))
+
+    def test_module_level(self):
+        for name, tree in TREES.items():
+            self.assertIsInstance(tree.body[0], ast.Expr, name)
+            for node in tree.body[1:]:
+                self.assertIsInstance(node, (ast.FunctionDef, ast.ClassDef, ast.Assign, ast.ImportFrom), name)
+            bound = bound_names(tree)
+            self.assertEqual(len(bound), len(set(bound)), name)
+
+
+class Code(unittest.TestCase):
+    def test_statements(self):
+        for name, node in nodes(ast.stmt):
+            self.assertIsInstance(node, STATEMENTS, (name, node.lineno))
+        for name, node in nodes((ast.SetComp, ast.GeneratorExp, ast.Lambda, ast.Yield, ast.NamedExpr, ast.Global, ast.Try)):
+            self.fail((name, node.lineno))
+
+    def test_each_function_and_class_is_told(self):
+        for name, node in nodes((ast.FunctionDef, ast.ClassDef)):
+            if node.name != "__init__":
+                self.assertIsNotNone(ast.get_docstring(node), (name, node.name))
+            self.assertEqual(node.decorator_list, [])
+
+    def test_names(self):
+        shadowed = set(dir(builtins)) - {"__doc__"}
+        for name, tree in TREES.items():
+            taken = [alias.name for node in tree.body if isinstance(node, ast.ImportFrom) for alias in node.names]
+            taken += [node.name for node in tree.body if isinstance(node, ast.ClassDef)]
+            stored = [node.id for node in ast.walk(tree) if isinstance(node, ast.Name) and isinstance(node.ctx, ast.Store)]
+            stored += [node.arg for node in ast.walk(tree) if isinstance(node, ast.arg)]
+            for word in stored:
+                self.assertNotIn(word, taken, name)
+            stored += [node.name for node in ast.walk(tree) if isinstance(node, (ast.FunctionDef, ast.ClassDef))]
+            for word in stored:
+                self.assertNotIn(word, shadowed, name)
+                self.assertNotIn(word, NO_NAMES, name)
+                self.assertTrue(word in ("_", "__init__") or word[0] != "_", (name, word))
+
+    def test_builtins_and_methods(self):
+        methods = {part.name for _, node in nodes(ast.ClassDef) for part in node.body if isinstance(part, ast.FunctionDef)}
+        kept = {node.attr for _, node in nodes(ast.Attribute) if isinstance(node.ctx, ast.Store)}
+        for name, node in nodes(ast.Name):
+            if node.id in dir(builtins):
+                self.assertIn(node.id, BUILTINS, (name, node.lineno))
+        for name, node in nodes(ast.Attribute):
+            self.assertIn(node.attr, METHODS | methods | kept, (name, node.lineno))
+
+    def test_signs(self):
+        for name, node in nodes((ast.Pow, ast.Div, ast.Mod, ast.MatMult)):
+            self.fail((name, node))
+        for name, node in nodes(ast.Compare):
+            if isinstance(node.ops[0], (ast.Is, ast.IsNot)):
+                self.assertIsInstance(node.comparators[0], ast.Constant, (name, node.lineno))
+        for name, node in nodes(ast.Constant):
+            self.assertNotIsInstance(node.value, (float, complex, bytes), name)
+            if isinstance(node.value, str):
+                self.assertNotIn("%", node.value, name)
+
+    def test_no_function_comes_back_to_itself(self):
+        defined = {node.name: node for _, node in nodes(ast.FunctionDef)}
+        leads = {}
+        for word, node in defined.items():
+            asked = [part.func for part in ast.walk(node) if isinstance(part, ast.Call)]
+            found = [func.id for func in asked if isinstance(func, ast.Name)]
+            found += [func.attr for func in asked if isinstance(func, ast.Attribute)]
+            leads[word] = [other for other in found if other in defined]
+        self.assertFalse(has_ring(leads))
+
+
+class Interface(unittest.TestCase):
+    def test_names_and_arguments(self):
+        for stem, entries in INTERFACE.items():
+            module = import_module(f"everycycle.{stem}")
+            for name, arguments in entries.items():
+                told = getattr(module, name)
+                self.assertEqual(told.__module__, f"everycycle.{stem}")
+                parameters = inspect.signature(told).parameters
+                self.assertEqual(", ".join(parameters), arguments, name)
+                for parameter in parameters.values():
+                    self.assertIs(parameter.default, inspect.Parameter.empty)
+
+
+if __name__ == "__main__":
+    unittest.main()
