@@ -2,7 +2,7 @@
 
 from everycycle.errors import BadNumber, BadWidth, NoName
 from everycycle.kinds import is_between
-from everycycle.parts import parts_of
+from everycycle.parts import LEAVES, parts_of
 
 WIDEST = 64
 SIGNALS = ("input", "reg", "wire", "output")
@@ -118,7 +118,7 @@ def steps_of(expression):
 def whole_width(scope, name, expression, widths):
     """The width of an expression whose parts have these widths, or the error of what is asked of them together."""
     kind = expression[0]
-    if kind in ("number", "name", "port"):
+    if kind in LEAVES:
         return leaf_width(scope, expression)
     if kind == "read":
         _, _, width, bits = scope.item_called(expression[1], ("memory",))

@@ -299,17 +299,16 @@ class ErrorsOfItems(Checking):
         for bits in (0, 7, 10 ** 30):
             self.fails([("memory", "x", 8, bits)], BadNumber, what="bits", number=bits)
 
-    def test_integers_are_no_bools(self):
-        for item, what in [(("input", "x", True), "width"), (("reg", "x", 8, True), "reset"), (("memory", "x", 8, True), "bits"),
-                           (("wire", "x", True, C), "width"), (("wire", "x", 1, ("number", True, 0)), "width"),
-                           (("wire", "x", 1, ("number", 1, True)), "value"), (("wire", "x", 1, ("slice", A, False, 0)), "high"),
-                           (("wire", "x", 1, ("slice", A, 0, False)), "low"), (("wire", "x", 8, ("left", A, True)), "shift")]:
-            try:
-                told(item)
-                self.fail(item)
-            except BadNumber as error:
-                self.assertEqual(error.what, what)
-                self.assertIsInstance(error.number, bool)
+    def test_numbers_are_integers_from_0_on_and_no_bools(self):
+        for number in (True, False, -1, -10 ** 30, None, "1", (1,), 1.0):
+            for item, what in [
+                (("input", "x", number), "width"), (("wire", "x", number, C), "width"), (("reg", "x", 8, number), "reset"),
+                (("memory", "x", 8, number), "bits"), (("wire", "x", 1, ("number", number, 0)), "width"),
+                (("wire", "x", 1, ("number", 1, number)), "value"), (("wire", "x", 1, ("slice", A, number, 0)), "high"),
+                (("wire", "x", 1, ("slice", A, 0, number)), "low"), (("wire", "x", 8, ("left", A, number)), "shift"),
+                (("wire", "x", 8, ("right", A, number)), "shift"),
+            ]:
+                self.fails([item], BadNumber, what=what, number=number)
 
     def test_of_two_wrong_things_of_an_item_the_first_one_counts(self):
         bad = ("slice", A, 9, 0)
