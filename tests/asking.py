@@ -13,5 +13,7 @@ class Asking:
             self.assertEqual(vars(error), fields, note)
             for name, value in fields.items():
                 self.assertIs(vars(error)[name].__class__, value.__class__)
+                if name == "row":
+                    self.assertIs(vars(error)[name], value)
             return
         self.fail(f"no {kind.__name__} of {fields}, but {told!r}: {note if note is not None else args!r}")

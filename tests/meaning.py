@@ -59,7 +59,7 @@ def of_width(rule, module, width, size):
     return leaf_of(rule, module, width)
 
 
-def put_item(rule, module, ahead, size):
+def put_item(rule, module, ahead, size, most_bits=6):
     """Puts an item of some kind behind those of a module."""
     kind = rule.pick(9)
     width = rule.one_of((1, 1, 2, 3, 8, 8, 32, 64))
@@ -68,7 +68,7 @@ def put_item(rule, module, ahead, size):
         module.items.append(("reg", name, width, rule.pick(2 ** min(width, 20))))
         module.regs.append((name, width))
     elif kind == 2:
-        bits = 1 + rule.pick(6)
+        bits = 1 + rule.pick(most_bits)
         module.items.append(("memory", name, width, bits))
         module.memories.append((name, width, bits))
         return
@@ -94,17 +94,22 @@ def put_item(rule, module, ahead, size):
     module.signals.append((("name", name), width))
 
 
-def meant(number, size):
+def meant(number, size, most_modules=6, most_items=24, most_bits=6):
     """The modules, as they were made, of a design that has a meaning; the last one is put in order last."""
     rule = Rule(number)
     modules = []
-    for place in range(1 + rule.pick(6)):
+    for place in range(1 + rule.pick(most_modules)):
         module = Module(f"m{place}")
-        for _ in range(rule.pick(25)):
-            put_item(rule, module, modules, size)
+        for _ in range(rule.pick(most_items + 1)):
+            put_item(rule, module, modules, size, most_bits)
         modules.append(module)
     return modules
 
 
 def design_of_modules(modules):
     return tuple(("module", module.name, tuple(module.items)) for module in modules)
+
+
+def small_design(number, size=6):
+    """A design of a few modules, small enough to be made flat and run."""
+    return design_of_modules(meant(number, size, 4, 20, 3))

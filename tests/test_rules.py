@@ -19,7 +19,28 @@ INTERFACE = {
     },
     "texts": {"design_of": "text", "design_text": "design"},
     "designs": {"check": "design", "width_of": "design, module, expression", "names_in": "expression"},
+    "cycles": {
+        "word_of": "expression, names", "reset_of": "design, module", "is_state": "design, module, value",
+        "are_inputs": "design, module, value", "cycle": "design, module, state, inputs", "word_at": "signals, name",
+        "run": "design, rows", "run_from": "design, state, rows", "state_behind": "design, state, rows",
+    },
+    "flats": {"flat": "design", "flat_state": "design, state", "deep_state": "design, row"},
+    "graphs": {
+        "Graph": "leaves, gates", "node_values": "graph, bits", "literal_value": "found, literal",
+        "sure_values": "graph, bits", "Builder": "leaves", "or_of": "builder, one, other",
+        "xor_of": "builder, one, other", "choice_of": "builder, c, one, other",
+        "put_into": "builder, graph, leaves, literals", "plain": "graph, literals", "cone": "graph, literals",
+        "with_known": "graph, literals, known",
+    },
 }
+METHODS_TOLD = {("graphs", "Graph"): {"__eq__": "self, other"},
+                ("graphs", "Builder"): {"graph": "self", "and_of": "self, one, other"}}
+# What comes back to itself, as deep as rows stand in rows, or modules in modules.
+BACK_TO_THEMSELVES = {"tuples_of", "state_with"}
+NO_ATTRIBUTES = set("""
+items keys values pop update append clear extend insert remove reverse setdefault sort args encode decode hex fromhex
+format format_map mro register elements open input law version_info with_traceback add_note
+""".split())
 BUILTINS = {
     "len", "range", "enumerate", "zip", "min", "max", "sum", "abs", "sorted", "reversed", "int", "str", "bool", "list",
     "tuple", "dict", "set", "isinstance", "ord", "repr", "any", "all", "divmod", "ValueError",
@@ -122,7 +143,7 @@ class Code(unittest.TestCase):
 
     def test_each_function_and_class_is_told(self):
         for name, node in nodes((ast.FunctionDef, ast.ClassDef)):
-            if node.name != "__init__":
+            if node.name not in ("__init__", "__eq__"):
                 self.assertIsNotNone(ast.get_docstring(node), (name, node.name))
             self.assertEqual(node.decorator_list, [])
 
@@ -139,7 +160,7 @@ class Code(unittest.TestCase):
             for word in stored:
                 self.assertNotIn(word, shadowed, name)
                 self.assertNotIn(word, NO_NAMES, name)
-                self.assertTrue(word in ("_", "__init__") or word[0] != "_", (name, word))
+                self.assertTrue(word in ("_", "__init__", "__eq__") or word[0] != "_", (name, word))
 
     def test_builtins_and_methods(self):
         methods = {part.name for _, node in nodes(ast.ClassDef) for part in node.body if isinstance(part, ast.FunctionDef)}
@@ -149,6 +170,27 @@ class Code(unittest.TestCase):
                 self.assertIn(node.id, BUILTINS, (name, node.lineno))
         for name, node in nodes(ast.Attribute):
             self.assertIn(node.attr, METHODS | methods | kept, (name, node.lineno))
+        self.assertFalse(kept & NO_ATTRIBUTES)
+        self.assertFalse(methods & METHODS)
+        classes = {node.name for _, node in nodes(ast.ClassDef)}
+        for name, node in nodes(ast.Attribute):
+            self.assertFalse(isinstance(node.value, ast.Name) and node.value.id in classes, (name, node.lineno))
+
+    def test_classes_are_called_or_asked_for(self):
+        """A class is called, a base, raised, or what isinstance asks for."""
+        classes = {node.name for _, node in nodes(ast.ClassDef)}
+        for name, tree in TREES.items():
+            right = set()
+            for node in ast.walk(tree):
+                if isinstance(node, ast.Call):
+                    right.add(id(node.func))
+                    if isinstance(node.func, ast.Name) and node.func.id == "isinstance":
+                        right.update(id(part) for part in ast.walk(node.args[1]))
+                elif isinstance(node, ast.ClassDef):
+                    right.update(id(part) for part in node.bases)
+            for node in ast.walk(tree):
+                if isinstance(node, ast.Name) and node.id in classes:
+                    self.assertIn(id(node), right, (name, node.lineno))
 
     def test_signs(self):
         for name, node in nodes((ast.Pow, ast.Div, ast.Mod, ast.MatMult)):
@@ -169,6 +211,8 @@ class Code(unittest.TestCase):
             found = [func.id for func in asked if isinstance(func, ast.Name)]
             found += [func.attr for func in asked if isinstance(func, ast.Attribute)]
             leads[word] = [other for other in found if other in defined]
+        for word in BACK_TO_THEMSELVES:
+            self.assertTrue(leads.pop(word))
         self.assertFalse(has_ring(leads))
 
 
@@ -183,6 +227,12 @@ class Interface(unittest.TestCase):
                 self.assertEqual(", ".join(parameters), arguments, name)
                 for parameter in parameters.values():
                     self.assertIs(parameter.default, inspect.Parameter.empty)
+
+    def test_methods_stand_in_the_class_itself(self):
+        for (stem, name), methods in METHODS_TOLD.items():
+            box = getattr(import_module(f"everycycle.{stem}"), name)
+            for method, arguments in methods.items():
+                self.assertEqual(", ".join(inspect.signature(vars(box)[method]).parameters), arguments)
 
 
 if __name__ == "__main__":
