@@ -88,7 +88,7 @@ def now(machine, clause):
 
 
 def behind(machine, clause):
-    """The clause of the graph's nodes that says what a state clause says behind the cycle; None if that is always so."""
+    """The clause of the graph's nodes that says what a state clause says behind the cycle; None if it always is so."""
     return clause_of([machine.nexts[abs(n) - 1] ^ (1 if n < 0 else 0) for n in clause])
 
 

@@ -121,9 +121,9 @@ class Search:
     def spread_long(self, false):
         """Likewise, for the long clauses that watch a literal that has become false."""
         truths, clauses = self.truths, self.clauses
-        watching, staying = self.watching[false], []
+        looking, staying = self.watching[false], []
         self.watching[false] = staying
-        for at, n in enumerate(watching):
+        for at, n in enumerate(looking):
             clause = clauses[n]
             if clause[0] == false:
                 clause[0] = clause[1]
@@ -141,7 +141,7 @@ class Search:
             else:
                 staying.append(n)
                 if truths[first] == -1:
-                    staying.extend(watching[at + 1:])
+                    staying.extend(looking[at + 1:])
                     return n
                 self.put(first, n)
         return None
@@ -233,7 +233,7 @@ class Search:
         return True
 
     def learnt(self, n):
-        """The pair (literals, steps) of a clause from clause n, false in the last level, of which it has one literal."""
+        """The pair (literals, steps) that the false clause n leads to: one literal, the first, is of the last level."""
         literals, steps, marked = self.clash(n)
         needless = sorted([(-self.places[abs(other)], other) for other in literals[1:] if self.is_needless(other)])
         left_out = {other: True for _, other in needless}
@@ -248,7 +248,7 @@ class Search:
         return [literal for literal in literals if literal not in left_out], steps
 
     def learn(self, n):
-        """Learns from clause n, false in the last level, and goes back as far as what is learnt has one open literal."""
+        """Learns from clause n, false in the last level, and goes back to where what is learnt asks for a literal."""
         literals, steps = self.learnt(n)
         level = 0
         for at in range(1, len(literals)):
@@ -257,7 +257,7 @@ class Search:
                 literals[1], literals[at] = literals[at], literals[1]
         number = self.put_line(("chain", n, tuple(steps)), literals)
         if len(literals) > 2:
-            self.glues[number] = len({self.levels[abs(literal)] for literal in literals})
+            self.glues[number] = len({self.levels[abs(literal)]: True for literal in literals})
         self.go_back(level)
         if len(literals) > 1:
             self.watch(number)
@@ -306,7 +306,7 @@ class Search:
         return self.lines_to(self.reasons[own], steps)
 
     def next_literal(self, assumed):
-        """The first assumed literal that is not true; otherwise one to be decided; None if all variables have values."""
+        """The first assumed literal that is not true; else one to be decided; None if all variables have values."""
         for literal in assumed:
             if self.truths[literal] != 1:
                 return literal
@@ -328,7 +328,7 @@ class Search:
         left_out = {-number: True for glue, _, number in ranks[len(ranks) // 2:] if glue > 2}
         for n in left_out:
             del self.glues[n]
-        self.watching = [[n for n in watching if n not in left_out] for watching in self.watching]
+        self.watching = [[n for n in row if n not in left_out] for row in self.watching]
         self.room += MORE_ROOM
 
     def ask(self, assumed):

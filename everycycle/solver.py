@@ -70,7 +70,7 @@ def units(many, row, trail):
 
 
 def what_is_asked(row, true):
-    """A clause with false literals alone, and None; else a clause and the only literal that it leaves; else two None."""
+    """A clause with false literals alone, and None; else a clause and the only literal it leaves; else two None."""
     asked = (None, None)
     for n, clause in enumerate(row):
         left = [literal for literal in clause if -literal not in true]
