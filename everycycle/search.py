@@ -205,7 +205,7 @@ class Search:
         while literal == 0 or here > 0:
             for other in self.clauses[reason]:
                 variable = abs(other)
-                if not self.marked[variable] and other != literal:
+                if not self.marked[variable]:
                     self.mark(variable)
                     marked.append(variable)
                     if self.levels[variable] == level:
@@ -276,34 +276,21 @@ class Search:
                 n = self.put_line(("chain", n, tuple(steps)), [literal])
             self.own_lines[abs(literal)] = n
 
-    def closed(self, n):
-        """The lines that show that clause n, which is false at level 0, can't be satisfied."""
-        return self.lines_to(n, [(abs(other), self.own_lines[abs(other)]) for other in self.clauses[n]])
+    def lines_from(self, n, own):
+        """The lines that clause n needs, resolved by the reasons of its literals, from the end of the trail.
 
-    def lines_to(self, n, steps):
-        """The lines that a chain of these steps from line n needs, itself last."""
+        Left are opposites of decisions, and own, which is true (0 if clause n is false).
+        """
+        asked = {abs(other): True for other in self.clauses[n] if other != own}
+        steps = []
+        for literal in self.trail[::-1]:
+            reason = self.reasons[abs(literal)]
+            if abs(literal) in asked and reason is not None:
+                steps.append((abs(literal), reason))
+                asked.update({abs(other): True for other in self.clauses[reason]})
         if steps:
             return drawn_lines([*self.lines, ("chain", n, tuple(steps))])
         return drawn_lines(self.lines[:n + 1])
-
-    def lines_against(self, literal):
-        """The lines that show that a false literal can't be true under those that have been decided."""
-        own = abs(literal)
-        if self.levels[own] == 0:
-            return self.lines_to(self.own_lines[own], [])
-        asked = {abs(other): True for other in self.clauses[self.reasons[own]]}
-        steps = []
-        for true in self.trail[::-1]:
-            variable = abs(true)
-            reason = self.reasons[variable]
-            if variable not in asked or variable == own:
-                continue
-            if self.levels[variable] == 0:
-                steps.append((variable, self.own_lines[variable]))
-            elif reason is not None:
-                steps.append((variable, reason))
-                asked.update({abs(other): True for other in self.clauses[reason]})
-        return self.lines_to(self.reasons[own], steps)
 
     def next_literal(self, assumed):
         """The first assumed literal that is not true; else one to be decided; None if all variables have values."""
@@ -335,8 +322,7 @@ class Search:
         """The pair (assignment, None), with all of assumed true, or (None, lines) that show that there is none."""
         self.go_back(0)
         if self.false_clause is not None:
-            self.ground()
-            return None, self.closed(self.false_clause)
+            return None, self.lines_from(self.false_clause, 0)
         while True:
             n = self.spread()
             if not self.starts:
@@ -347,10 +333,10 @@ class Search:
                 if literal is None:
                     return tuple([1 if truth == 1 else 0 for truth in self.truths[1:self.many + 1]]), None
                 if self.truths[literal] == -1:
-                    return None, self.lines_against(literal)
+                    return None, self.lines_from(self.reasons[abs(literal)], -literal)
                 self.decide(literal)
             elif self.starts:
                 self.learn(n)
             else:
                 self.false_clause = n
-                return None, self.closed(n)
+                return None, self.lines_from(n, 0)

@@ -190,6 +190,12 @@ class Cycles(Asking, unittest.TestCase):
         for name in ("x", "p", "both", "r", "on", "", "p.one", "p.one.count"):
             self.assertFails(NoName, {"name": name}, word_at, signals, name)
         self.assertFails(NoName, {"name": "w"}, word_at, (), "w")
+        for name in anything():
+            self.assertFails(NoName, {"name": name}, word_at, signals, name)
+
+    def test_modules_that_are_not_there(self):
+        for call, more in ((reset_of, ()), (is_state, ((),)), (are_inputs, ((),)), (cycle, ((), ()))):
+            self.assertFails(NoName, {"name": "low"}, call, NESTED, "low", *more)
 
 
 if __name__ == "__main__":

@@ -1,0 +1,132 @@
+"""The search that the solver rests on, with such limits that it often rests, forgets and makes its weights less."""
+
+import unittest
+from unittest import mock
+
+from everycycle import search
+from everycycle.lines import is_refutation
+from everycycle.search import Search, round_length
+from tests.fixed import Rule
+from tests.nets import all_bits
+from tests.riddles import parities, pigeons
+from tests.test_clauses import is_true
+from tests.test_lines import plain_clauses, some_clauses
+from tests.test_solver import some_assumed
+
+
+def narrow_limits(few=1, room=2, weight=1 << 12):
+    return mock.patch.multiple(search, FEW_CLASHES=few, FIRST_ROOM=room, MORE_ROOM=1, GREATEST_WEIGHT=weight)
+
+
+def long_clause(rule, many, length):
+    """A clause of so many literals."""
+    variables = []
+    while len(variables) < length:
+        variable = 1 + rule.pick(many)
+        if variable not in variables:
+            variables.append(variable)
+    return tuple(n * rule.one_of((1, -1)) for n in sorted(variables))
+
+
+class Rounds(unittest.TestCase):
+    def test_lengths(self):
+        self.assertEqual([round_length(k) for k in range(1, 16)], [1, 1, 2, 1, 1, 2, 4, 1, 1, 2, 1, 1, 2, 4, 8])
+        self.assertEqual([round_length(2 ** k - 1) for k in range(1, 10)], [2 ** k for k in range(9)])
+
+
+class Asked(unittest.TestCase):
+    def hold(self, place, many, clauses, assumed, wanted):
+        """One more question to a search must be answered rightly; tells whether an assignment was found."""
+        assignment, lines = place.ask(assumed)
+        if wanted is not None:
+            self.assertIs(lines is None, wanted)
+        if lines is None:
+            self.assertEqual(len(assignment), many)
+            self.assertTrue(all(is_true(assignment, clause) for clause in (*clauses, *[(n,) for n in assumed])))
+        else:
+            self.assertIsNone(assignment)
+            self.assertIs(is_refutation(clauses, lines, assumed), True)
+        return lines is None
+
+    def ask_again(self, rule, many, clauses, times):
+        right = [bits for bits in all_bits(many) if all(is_true(bits, clause) for clause in clauses)]
+        place = Search(many, clauses)
+        for _ in range(times):
+            assumed = some_assumed(rule, many)
+            self.hold(place, many, clauses, assumed, any(all((bits[abs(n) - 1] == 1) == (n > 0) for n in assumed) for bits in right))
+        # What has been learnt follows from the clauses.
+        told = plain_clauses(clauses, tuple(place.lines))
+        self.assertIsNotNone(told)
+        self.assertEqual([set(clause) for clause in told], [set(clause) for clause in place.clauses])
+        self.assertTrue(all(is_true(bits, clause) for bits in right for clause in told))
+        return place
+
+    def test_again_and_again(self):
+        for number in range(200):
+            rule = Rule(number + 3800)
+            many = 1 + rule.pick(8)
+            self.ask_again(rule, many, some_clauses(rule, many, rule.pick(5 * many + 1)), 6)
+
+    def test_again_and_again_with_rests(self):
+        forgotten = []
+        with narrow_limits(1, 0):
+            for number in range(120):
+                rule = Rule(number + 4100)
+                many = 9 + rule.pick(2)
+                clauses = tuple(long_clause(rule, many, 3) for _ in range(4 * many))
+                place = self.ask_again(rule, many, clauses, 6)
+                forgotten.append(place.room)
+        self.assertGreater(sum(forgotten), 100)
+
+    def test_units_among_long_clauses(self):
+        with narrow_limits(2):
+            for number in range(150):
+                rule = Rule(number + 4300)
+                many = 10
+                clauses = [long_clause(rule, many, 4) for _ in range(75)]
+                clauses += [(n * rule.one_of((1, -1)),) for n in range(1, many + 1) if rule.pick(6) == 0]
+                self.ask_again(rule, many, tuple(clauses), 4)
+
+    def test_riddles_with_rests(self):
+        for few in (1, 3, 16):
+            for room in (1, 20):
+                with narrow_limits(few, room):
+                    for many in (3, 4, 5):
+                        variables, clauses = pigeons(many + 1, many)
+                        place = Search(variables, clauses)
+                        self.hold(place, variables, clauses, (1,), False)
+                        self.hold(place, variables, clauses, (), False)
+                        self.hold(place, variables, clauses, (-1,), False)
+                        self.assertIsNotNone(place.false_clause)
+                        clauses = clauses[1:]
+                        place = Search(variables, clauses)
+                        self.hold(place, variables, clauses, (1,), False)
+                        self.hold(place, variables, clauses, (-1,), True)
+                        self.hold(place, variables, clauses, (2,), False)
+                        self.hold(place, variables, clauses, (), True)
+                    variables, clauses = parities(11, 4)
+                    self.hold(Search(variables, clauses), variables, clauses, (), False)
+
+
+class Weights(unittest.TestCase):
+    def test_great_weights_are_made_less(self):
+        variables, clauses = pigeons(7, 6)
+        with narrow_limits(50, 50):
+            place = Search(variables, clauses)
+            _, lines = place.ask(())
+        self.assertIs(is_refutation(clauses, lines), True)
+        self.assertLess(place.weight, 1 << 13)
+        self.assertLess(max(place.weights), 1 << 20)
+
+    def test_the_heaviest_goes_first(self):
+        place = Search(4, ())
+        for variable, weight in ((3, 1), (2, 1), (3, 1)):
+            place.weight = weight
+            place.decide(variable)
+            place.mark(variable)
+            place.go_back(0)
+        self.assertEqual([place.heaviest() for _ in range(5)], [3, 2, 1, 4, None])
+
+
+if __name__ == "__main__":
+    unittest.main()
