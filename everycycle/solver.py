@@ -93,7 +93,8 @@ def learnt(many, row, trail, n):
     for at, entries in enumerate(trail[:-1]):
         if held_in(held, entries):
             level = at
-    return ("chain", n, tuple(steps)) if steps else ("given", n), clause_with(held), level
+    line = ("chain", n, tuple(steps)) if steps else ("given", n)
+    return line, clause_with(held), level
 
 
 def held_in(held, level):

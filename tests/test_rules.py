@@ -239,6 +239,51 @@ class Code(unittest.TestCase):
             if isinstance(node.value, str):
                 self.assertNotIn("%", node.value, name)
 
+    def test_views_are_gone_over_at_once(self):
+        """zip, enumerate, reversed, range, items, keys and values stand where they are iterated."""
+        views = {"zip", "enumerate", "reversed", "range"}
+        takers = {"list", "tuple", "dict", "sorted", "sum", "any", "all", "enumerate", "zip"}
+        for name, tree in TREES.items():
+            right = set()
+            for node in ast.walk(tree):
+                if isinstance(node, (ast.For, ast.comprehension)):
+                    right.add(id(node.iter))
+                elif isinstance(node, ast.Call) and isinstance(node.func, ast.Name):
+                    if node.func.id in takers:
+                        right.update(id(part) for part in node.args[:None if node.func.id == "zip" else 1])
+                    elif node.func.id == "reversed" and isinstance(node.args[0], ast.Call):
+                        self.assertEqual(node.args[0].func.id, "range", (name, node.lineno))
+                        right.add(id(node.args[0]))
+            for node in ast.walk(tree):
+                if isinstance(node, ast.Call):
+                    told = node.func.id if isinstance(node.func, ast.Name) else getattr(node.func, "attr", "")
+                    if told in views or told in ("items", "keys", "values"):
+                        self.assertIn(id(node), right, (name, node.lineno))
+
+    def test_what_a_loop_goes_over_is_not_changed_in_it(self):
+        changes = {"append", "extend", "insert", "pop", "remove", "clear", "update", "setdefault", "reverse"}
+        for name, loop in nodes(ast.For):
+            over = loop.iter
+            while isinstance(over, ast.Call):
+                over = over.args[0] if isinstance(over.func, ast.Name) and over.args else getattr(over.func, "value", ast.Constant(0))
+            if not isinstance(over, (ast.Name, ast.Attribute)):
+                continue
+            told = ast.unparse(over)
+            for node in [part for row in loop.body for part in ast.walk(row)]:
+                if isinstance(node, ast.Call) and isinstance(node.func, ast.Attribute) and node.func.attr in changes:
+                    self.assertNotEqual(ast.unparse(node.func.value), told, (name, node.lineno))
+                if isinstance(node, ast.Subscript) and not isinstance(node.ctx, ast.Load):
+                    self.assertNotEqual(ast.unparse(node.value), told, (name, node.lineno))
+
+    def test_parameters_are_plain(self):
+        for name, node in nodes(ast.FunctionDef):
+            told = node.args
+            self.assertFalse(told.vararg or told.kwarg or told.kwonlyargs or told.posonlyargs, (name, node.name))
+            for default in told.defaults:
+                self.assertIn(ast.unparse(default), ("()", "0"), (name, node.name))
+            inner = [part for row in node.body for part in ast.walk(row)]
+            self.assertFalse([part for part in inner if isinstance(part, (ast.FunctionDef, ast.ClassDef))], (name, node.name))
+
     def test_no_function_comes_back_to_itself(self):
         defined = {node.name: node for _, node in nodes(ast.FunctionDef)}
         leads = {}
