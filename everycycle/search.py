@@ -312,9 +312,9 @@ class Search:
     def forget(self):
         """At level 0, has the worse half of the long clauses that were learnt no longer looked at; their lines stay."""
         ranks = sorted([(glue, len(self.clauses[n]), -n) for n, glue in self.glues.items()])
-        left_out = {-number: True for glue, _, number in ranks[len(ranks) // 2:] if glue > 2}
-        for n in left_out:
-            del self.glues[n]
+        left_out = {-rank: True for glue, _, rank in ranks[len(ranks) // 2:] if glue > 2}
+        for number in left_out:
+            del self.glues[number]
         self.watching = [[n for n in row if n not in left_out] for row in self.watching]
         self.room += MORE_ROOM
 
