@@ -30,8 +30,8 @@ def question(builder, literal, *assumed):
 
 
 class InTime(unittest.TestCase):
-    def hold(self, many, clauses, assumed, kind, seconds=4):
-        """It must be solved in a second or so; tells what is told."""
+    def hold(self, many, clauses, assumed, kind, seconds=20):
+        """It must be solved in a second or so, on slow machines, too, in some seconds; tells what is told."""
         start = time.perf_counter()
         told = solve(many, clauses, assumed)
         self.assertLess(time.perf_counter() - start, seconds)
