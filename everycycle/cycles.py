@@ -1,7 +1,7 @@
 """Words, cycles and runs: the plain meaning of designs."""
 
 from everycycle.errors import BadRow, NoName
-from everycycle.kinds import is_row, tuples_of
+from everycycle.kinds import has_tuples_alone, is_row, tuples_of
 from everycycle.parts import folded
 from everycycle.states import (
     HELD, are_words, input_widths, is_state_of, items_by_module, items_called, of_kinds, top_of,
@@ -34,14 +34,15 @@ def reset_of(design, module):
 
 
 def is_state(design, module, value):
-    """Whether any value is a state of a module; lists may stand for tuples."""
+    """Whether any value is a state of a module."""
     modules = items_by_module(design)
-    return is_state_of(modules, items_called(modules, module), value)
+    return is_state_of(modules, items_called(modules, module), value) and has_tuples_alone(value)
 
 
 def are_inputs(design, module, value):
-    """Whether any value is a row of words for the inputs of a module; a list may stand for a tuple."""
-    return are_words(value, input_widths(items_called(items_by_module(design), module)))
+    """Whether any value is a row of words for the inputs of a module."""
+    items = items_called(items_by_module(design), module)
+    return are_words(value, input_widths(items)) and has_tuples_alone(value)
 
 
 class Work:
@@ -135,12 +136,13 @@ def worked(modules, items, state, words):
 
 def cycle(design, module, state, inputs):
     """The pair (signals, next state) of one cycle of a module."""
-    if not is_state(design, module, state):
-        raise BadRow(state)
-    if not are_inputs(design, module, inputs):
-        raise BadRow(inputs)
     modules = items_by_module(design)
-    work = worked(modules, modules[module], state, inputs)
+    items = items_called(modules, module)
+    if not is_state_of(modules, items, state):
+        raise BadRow(state)
+    if not are_words(inputs, input_widths(items)):
+        raise BadRow(inputs)
+    work = worked(modules, items, state, inputs)
     return tuple(work.signals), tuple(work.behind.values())
 
 

@@ -1,9 +1,8 @@
 """Designs as one module, without uses and memories."""
 
-from everycycle.cycles import is_state
 from everycycle.errors import BadRow
 from everycycle.parts import folded, with_parts
-from everycycle.states import HELD, are_words, items_by_module, of_kinds, top_of
+from everycycle.states import HELD, are_words, is_state_of, items_by_module, of_kinds, top_of
 
 
 def flat(design):
@@ -118,7 +117,8 @@ def place_name(memory, k):
 
 def flat_state(design, state):
     """The row of all words in a state of the top, from the left."""
-    if not is_state(design, top_of(design), state):
+    modules = items_by_module(design)
+    if not is_state_of(modules, modules[top_of(design)], state):
         raise BadRow(state)
     told = []
     waiting = [state]

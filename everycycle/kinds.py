@@ -33,6 +33,11 @@ def tuples_of(value):
     return value
 
 
+def has_tuples_alone(value):
+    """Whether a value that is right, if lists may stand for tuples, has no list in it."""
+    return tuples_of(value) == value
+
+
 def kept(value):
     """What an object keeps of what it is given: a list as a tuple, all else just as it is."""
     return tuple(value) if isinstance(value, list) else value

@@ -29,7 +29,7 @@ def greatest(width):
 
 
 def is_state_of(modules, items, value):
-    """Whether any value is a state of a module with these items."""
+    """Whether any value is a state of a module with these items; lists may stand for tuples."""
     waiting = [(items, value)]
     while waiting:
         inner, row = waiting.pop()
@@ -53,7 +53,7 @@ def is_own_state(item, value):
 
 
 def are_words(value, widths):
-    """Whether any value is a row of words, one for each of the widths."""
+    """Whether any value is a row of words, one for each of the widths; a list may stand for a tuple."""
     if not is_row(value) or len(value) != len(widths):
         return False
     return all([is_between(word, 0, greatest(width)) for word, width in zip(value, widths)])

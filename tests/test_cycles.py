@@ -37,10 +37,20 @@ def bent(value, path, other):
     return placed(value, path[0], bent(value[path[0]], path[1:], other))
 
 
+def part_at(value, path):
+    """What stands in a value at a path."""
+    return part_at(value[path[0]], path[1:]) if path else value
+
+
 def is_row_of(value, *tests):
-    """Whether a value is a row of parts of which each one passes its test."""
+    """Whether a value is a row of parts of which each one passes its test; lists may stand for tuples."""
     return isinstance(value, (tuple, list)) and len(value) == len(tests) and all(
         test(part) for test, part in zip(tests, value))
+
+
+def holds_a_list(value):
+    """Whether a list stands in a row of rows, or is it."""
+    return isinstance(value, list) or (isinstance(value, tuple) and any(holds_a_list(part) for part in value))
 
 
 def is_word(value, most):
@@ -69,14 +79,32 @@ class States(Asking, unittest.TestCase):
         self.assertEqual(reset_of(PLAIN, "plain"), ())
         self.assertFails(NoName, {"name": "x"}, reset_of, PLAIN, "x")
 
-    def test_right_states_as_tuples_and_as_lists(self):
+    def test_right_states(self):
         for design, module, state in (
             (NESTED, "cell", (0,)), (NESTED, "cell", (7,)), (NESTED, "pair", ((3, 3), (7,), (0,))), (NESTED, "top", TOP),
             (WRITES, "writes", ((15, 0, 1, 2), 15, 0)), (EMPTY, "empty", ()), (PLAIN, "plain", ()),
         ):
             self.assertIs(is_state(design, module, state), True)
-            self.assertIs(is_state(design, module, listed(state)), True)
-            self.assertIs(is_state(design, module, list(state)), True)
+            self.assertIs(is_state(design, module, listed(state)), False)
+            self.assertIs(is_state(design, module, list(state)), False)
+
+    def test_a_list_in_each_place_is_judged_and_may_be_passed(self):
+        many = 0
+        for design, module, state, inputs in (
+            (NESTED, "top", TOP, (3, 1)), (NESTED, "pair", PAIR, (2,)), (WRITES, "writes", ((1, 2, 4, 8), 9, 3), (1, 12)),
+        ):
+            told = cycle(design, module, state, inputs)
+            for path in leaves_of(state):
+                part = part_at(state, path)
+                if isinstance(part, tuple):
+                    for inner in (list(part), listed(part)):
+                        other = bent(state, path, inner)
+                        self.assertIs(is_state(design, module, other), False)
+                        self.assertEqual(cycle(design, module, other, inputs), told)
+                        many += 1
+            self.assertIs(are_inputs(design, module, list(inputs)), False)
+            self.assertEqual(cycle(design, module, state, list(inputs)), told)
+        self.assertEqual(many, 22)
 
     def test_each_place_of_a_state_bent(self):
         many = 0
@@ -84,8 +112,10 @@ class States(Asking, unittest.TestCase):
             for value in anything():
                 state = bent(TOP, path, value)
                 right = is_row_of(state, is_bit, is_pair_state)
-                self.assertIs(is_state(NESTED, "top", state), right, path)
-                if not right:
+                self.assertIs(is_state(NESTED, "top", state), right and not holds_a_list(state), path)
+                if right:
+                    self.assertEqual(len(cycle(NESTED, "top", state, (0, 0))), 2)
+                else:
                     self.assertFails(BadRow, {"row": state}, cycle, NESTED, "top", state, (0, 0))
                 many += right
         self.assertGreater(many, 9)
@@ -108,14 +138,14 @@ class States(Asking, unittest.TestCase):
     def test_inputs(self):
         for inputs in ((0, 0), (3, 1), (2, 0)):
             self.assertIs(are_inputs(NESTED, "top", inputs), True)
-            self.assertIs(are_inputs(NESTED, "top", list(inputs)), True)
+            self.assertIs(are_inputs(NESTED, "top", list(inputs)), False)
         for inputs in ((4, 0), (0, 2), (-1, 0), (0,), (0, 0, 0), (), (True, 0), (0, False), ("0", 0), ((0,), 0), (0, None)):
             self.assertIs(are_inputs(NESTED, "top", inputs), False, inputs)
             self.assertIs(are_inputs(NESTED, "top", list(inputs)), False, inputs)
         self.assertIs(are_inputs(EMPTY, "empty", ()), True)
-        self.assertIs(are_inputs(EMPTY, "empty", []), True)
+        self.assertIs(are_inputs(EMPTY, "empty", []), False)
         for value in anything():
-            plain = isinstance(value, (tuple, list)) and all(part.__class__ is int for part in value)
+            plain = isinstance(value, tuple) and all(part.__class__ is int for part in value)
             for design, module, tops in ((NESTED, "top", (3, 1)), (NESTED, "cell", (3,)), (WRITES, "writes", (3, 15)), (EMPTY, "empty", ())):
                 right = plain and len(value) == len(tops) and all(0 <= word <= most for word, most in zip(value, tops))
                 self.assertIs(are_inputs(design, module, value), right)
