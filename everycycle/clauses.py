@@ -2,7 +2,7 @@
 
 from everycycle.errors import BadNumber, BadRow
 from everycycle.graphs import Builder, literal_value, node_values, put_into
-from everycycle.kinds import are_rows_of_bits, is_between, is_from, is_row_between, kept
+from everycycle.kinds import are_rows_of_bits, is_between, is_from, is_row_between, row_kept
 
 
 class Machine:
@@ -97,8 +97,8 @@ class Unrolled:
 
     def __init__(self, graph, states, wishes):
         self.graph = graph
-        self.states = kept(states)
-        self.wishes = kept(wishes)
+        self.states = row_kept(states)
+        self.wishes = row_kept(wishes)
 
 
 def unrolled(machine, cycles, free):

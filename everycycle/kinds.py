@@ -38,6 +38,6 @@ def has_tuples_alone(value):
     return tuples_of(value) == value
 
 
-def kept(value):
+def row_kept(value):
     """What an object keeps of what it is given: a list as a tuple, all else just as it is."""
     return tuple(value) if isinstance(value, list) else value

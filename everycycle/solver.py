@@ -2,7 +2,7 @@
 
 from everycycle.clauses import satisfies
 from everycycle.errors import BadNumber, BadRow
-from everycycle.kinds import is_between, is_from, is_row, kept
+from everycycle.kinds import is_between, is_from, is_row, row_kept
 from everycycle.lines import clause_with, is_refutation, needed_lines, resolve_in
 from everycycle.search import Search
 
@@ -111,14 +111,14 @@ class Found:
     """An assignment that satisfies the clauses and makes what is assumed true."""
 
     def __init__(self, assignment):
-        self.assignment = kept(assignment)
+        self.assignment = row_kept(assignment)
 
 
 class Barred:
     """Lines that show that there is no such assignment."""
 
     def __init__(self, lines):
-        self.lines = kept(lines)
+        self.lines = row_kept(lines)
 
 
 def are_clauses(many, value):

@@ -53,6 +53,19 @@ INTERFACE = {
         "learnt": "many, row, trail, n", "gone_back": "trail, level, literal, n", "Found": "assignment",
         "Barred": "lines", "solve": "many, clauses, assumed=()", "is_solved": "many, clauses, assumed, told",
     },
+    "bounded": {
+        "Broken": "rows", "is_break": "machine, rows", "one_cycle": "machine, state, inputs",
+        "break_lot": "machine, many", "first_break": "machine, most", "FirstBreak": "rows, papers", "NoBreak": "papers",
+        "is_first_break": "machine, most, told", "cut_out": "machine, rows",
+    },
+    "steps": {
+        "path_of": "machine, state, rows", "step_lot": "machine, k", "by_steps": "machine, k", "KeptBySteps": "base, step",
+        "OpenSteps": "state, rows", "is_by_steps": "machine, k, told",
+    },
+    "judge": {
+        "given_of": "machine, clauses", "against": "machine, clause", "against_wish": "machine", "Kept": "clauses, papers",
+        "is_kept": "machine, told", "lessened": "machine, kept",
+    },
 }
 METHODS_TOLD = {("graphs", "Graph"): {"__eq__": "self, other"}, ("clauses", "Machine"): {"__eq__": "self, other"},
                 ("graphs", "Builder"): {"graph": "self", "and_of": "self, one, other"}}
