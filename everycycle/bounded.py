@@ -1,11 +1,11 @@
 """Breaks of a machine of at most so many cycles, or papers that there is none."""
 
-from everycycle.clauses import breaks, clause_of, clauses_of, played, unrolled
+from everycycle.clauses import breaks, played, unrolled
 from everycycle.errors import BadNumber
 from everycycle.graphs import literal_value, node_values
 from everycycle.kinds import are_rows_of_bits, has_tuples_alone, is_from, row_kept, tuples_of
 from everycycle.lines import is_refutation
-from everycycle.solver import Found, solve
+from everycycle.lots import Lots, lot_of
 
 
 class Broken:
@@ -46,21 +46,10 @@ def one_cycle(machine, state, inputs):
     return tuple([literal_value(found, literal) for literal in machine.nexts]), literal_value(found, machine.wish)
 
 
-def lot_of(graph, literals):
-    """The pair (variables, clauses) of a graph and of rows of literals, one of each of which is to be 1."""
-    asked = [clause_of(row) for row in literals]
-    return graph.leaves + len(graph.gates), (*clauses_of(graph), *[clause for clause in asked if clause is not None])
-
-
 def break_lot(machine, many):
     """The pair (variables, clauses) that says that the wish is 0 in the last one of so many cycles from reset."""
     told = unrolled(machine, many, False)
     return lot_of(told.graph, [(told.wishes[-1] ^ 1,)])
-
-
-def cut_up(bits, size, many):
-    """The first bits as so many rows of one size."""
-    return tuple([tuple(bits[size * k:size * (k + 1)]) for k in range(many)])
 
 
 def need_from(what, number, least):
@@ -72,12 +61,13 @@ def need_from(what, number, least):
 def first_break(machine, most):
     """FirstBreak with a break of as few cycles as can be, or NoBreak, if none has at most so many cycles."""
     need_from("most", most, 1)
+    lots = Lots(machine)
     papers = []
-    for many in range(1, most + 1):
-        told = solve(*break_lot(machine, many))
-        if isinstance(told, Found):
-            return FirstBreak(cut_up(told.assignment, machine.inputs, many), papers)
-        papers.append(told.lines)
+    for _ in range(most):
+        rows, paper = lots.next_lot()
+        if paper is None:
+            return FirstBreak(rows, papers)
+        papers.append(paper)
     return NoBreak(papers)
 
 

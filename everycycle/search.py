@@ -57,6 +57,7 @@ class Search:
         self.pairs = [[] for _ in range(2 * many + 1)]
         self.watching = [[] for _ in range(2 * many + 1)]
         self.false_clause = None
+        self.failed = None
         self.grounded = 0
         self.clashes = 0
         self.rounds = 1
@@ -276,18 +277,28 @@ class Search:
                 n = self.put_line(("chain", n, tuple(steps)), [literal])
             self.own_lines[abs(literal)] = n
 
-    def lines_from(self, n, own):
-        """The lines that clause n needs, resolved by the reasons of its literals, from the end of the trail.
+    def end_steps(self):
+        """How the clause at which the last answer failed is resolved by reasons, from the end of the trail.
 
-        Left are opposites of decisions, and own, which is true (0 if clause n is false).
+        The pair (steps, literals): what is left are the opposites of these literals, which were assumed.
         """
+        n, own = self.failed
         asked = {abs(other): True for other in self.clauses[n] if other != own}
-        steps = []
+        steps, left = [], [] if own == 0 else [-own]
         for literal in self.trail[::-1]:
-            reason = self.reasons[abs(literal)]
-            if abs(literal) in asked and reason is not None:
-                steps.append((abs(literal), reason))
-                asked.update({abs(other): True for other in self.clauses[reason]})
+            if abs(literal) in asked:
+                reason = self.reasons[abs(literal)]
+                if reason is None:
+                    left.append(literal)
+                else:
+                    steps.append((abs(literal), reason))
+                    asked.update({abs(other): True for other in self.clauses[reason]})
+        return steps, left
+
+    def end_lines(self):
+        """The lines that show why the last answer failed."""
+        n, _ = self.failed
+        steps, _ = self.end_steps()
         if steps:
             return drawn_lines([*self.lines, ("chain", n, tuple(steps))])
         return drawn_lines(self.lines[:n + 1])
@@ -318,12 +329,14 @@ class Search:
         self.watching = [[n for n in row if n not in left_out] for row in self.watching]
         self.room += MORE_ROOM
 
-    def ask(self, assumed):
-        """The pair (assignment, None), with all of assumed true, or (None, lines) that show that there is none."""
+    def answer(self, assumed):
+        """Whether some assignment satisfies the clauses and makes assumed true: then truths tell one.
+
+        If not, failed is the pair of a clause and a literal of it that is true, the opposite of an assumed one; 0 if
+        all of its literals are false.
+        """
         self.go_back(0)
-        if self.false_clause is not None:
-            return None, self.lines_from(self.false_clause, 0)
-        while True:
+        while self.false_clause is None:
             n = self.spread()
             if not self.starts:
                 self.ground()
@@ -331,12 +344,20 @@ class Search:
                 self.rest()
                 literal = self.next_literal(assumed)
                 if literal is None:
-                    return tuple([1 if truth == 1 else 0 for truth in self.truths[1:self.many + 1]]), None
+                    return True
                 if self.truths[literal] == -1:
-                    return None, self.lines_from(self.reasons[abs(literal)], -literal)
+                    self.failed = (self.reasons[abs(literal)], -literal)
+                    return False
                 self.decide(literal)
             elif self.starts:
                 self.learn(n)
             else:
                 self.false_clause = n
-                return None, self.lines_from(n, 0)
+        self.failed = (self.false_clause, 0)
+        return False
+
+    def ask(self, assumed):
+        """The pair (assignment, None), with all of assumed true, or (None, lines) that show that there is none."""
+        if self.answer(assumed):
+            return tuple([1 if truth == 1 else 0 for truth in self.truths[1:self.many + 1]]), None
+        return None, self.end_lines()

@@ -1,12 +1,13 @@
 """Wishes that are kept because the last k cycles, with unlike states, keep them."""
 
 from everycycle.bounded import (
-    FirstBreak, are_judged_rows, are_papers, cut_up, first_break, is_break_within, lot_of, need_from, one_cycle,
+    FirstBreak, are_judged_rows, are_papers, first_break, is_break_within, need_from, one_cycle,
 )
 from everycycle.clauses import unrolled
 from everycycle.graphs import Builder, own_leaves, put_into, xor_of
 from everycycle.kinds import has_tuples_alone, is_row_between, row_kept
 from everycycle.lines import is_refutation
+from everycycle.lots import cut_up, lot_of
 from everycycle.solver import Found, solve
 
 

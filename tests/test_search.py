@@ -4,6 +4,7 @@ import unittest
 from unittest import mock
 
 from everycycle import search
+from everycycle.asked import AskedSearch
 from everycycle.lines import is_refutation
 from everycycle.search import Search, round_length
 from tests.fixed import Rule
@@ -106,6 +107,84 @@ class Asked(unittest.TestCase):
                         self.hold(place, variables, clauses, (), True)
                     variables, clauses = parities(11, 4)
                     self.hold(Search(variables, clauses), variables, clauses, (), False)
+
+
+class AskedMore(unittest.TestCase):
+    """Searches whose variables and clauses become more between the questions."""
+
+    def right_bits(self, many, clauses):
+        return [bits for bits in all_bits(many) if all(is_true(bits, clause) for clause in clauses)]
+
+    def hold(self, place, many, clauses, assumed):
+        """A question must be answered rightly, with lines or a clause of assumed literals that show it."""
+        right = self.right_bits(many, clauses)
+        wanted = any(all((bits[abs(n) - 1] == 1) == (n > 0) for n in assumed) for bits in right)
+        self.assertIs(place.answer(assumed), wanted)
+        if wanted:
+            bits = [1 if truth == 1 else 0 for truth in place.truths[1:many + 1]]
+            self.assertTrue(all(is_true(bits, clause) for clause in (*clauses, *[(n,) for n in assumed])))
+            return
+        self.assertIs(is_refutation(clauses, place.end_lines(), assumed), True)
+        steps, left = place.end_steps()
+        self.assertTrue(all(n in assumed for n in left))
+        self.assertFalse(any(all((bits[abs(n) - 1] == 1) == (n > 0) for n in left) for bits in right))
+        number = place.put_end()
+        self.assertTrue(all(-n in left for n in place.clauses[number]))
+        self.assertTrue(all(is_true(bits, place.clauses[number]) for bits in right))
+
+    def grow(self, rule):
+        many, clauses = rule.pick(4), []
+        place = AskedSearch(many, ())
+        self.assertEqual(place.put_variables(0), [])
+        for _ in range(14):
+            kind = rule.pick(3)
+            if (kind == 0 or many == 0) and many < 8:
+                more = 1 + rule.pick(2)
+                self.assertEqual(place.put_variables(more), list(range(many + 1, many + more + 1)))
+                many += more
+            elif kind == 1:
+                for clause in some_clauses(rule, many, 1 + rule.pick(3)):
+                    number = place.put_more(("given", len(clauses)), list(clause))
+                    clauses.append(clause)
+                    self.assertEqual(set(place.clauses[number]), set(clause))
+                    self.assertEqual(place.lines[number], ("given", len(clauses) - 1))
+            else:
+                self.hold(place, many, clauses, some_assumed(rule, many))
+        self.hold(place, many, clauses, ())
+        told = plain_clauses(clauses, tuple(place.lines))
+        self.assertEqual([set(clause) for clause in told], [set(clause) for clause in place.clauses])
+        return place.false_clause is None
+
+    def test_more_and_more(self):
+        open_ones = sum(self.grow(Rule(number + 7200)) for number in range(400))
+        self.assertTrue(80 < open_ones < 320, open_ones)
+
+    def test_more_and_more_with_rests(self):
+        with narrow_limits(1, 0):
+            for number in range(150):
+                self.grow(Rule(number + 7700))
+
+    def test_by_hand(self):
+        place = AskedSearch(0, ())
+        self.assertIs(place.answer(()), True)
+        one, two, three = place.put_variables(3)
+        place.put_more(("given", 0), [one])
+        place.put_more(("given", 1), [-one, two])
+        self.assertIs(place.answer((-two,)), False)
+        self.assertEqual(place.end_steps(), ([(1, 0)], [-2]))
+        number = place.put_end()
+        self.assertEqual((place.clauses[number], place.lines[number]), ([2], ("chain", 1, ((1, 0),))))
+        # Clauses whose other literals are false already: by one a literal is true, and then one is false.
+        place.put_more(("given", 2), [-one, -two, three])
+        self.assertIs(place.answer(()), True)
+        self.assertEqual(place.truths[three], 1)
+        self.assertIs(place.answer((-three,)), False)
+        place.put_more(("given", 3), [-three, -one])
+        self.assertIs(place.answer(()), False)
+        self.assertEqual(place.end_steps()[1], [])
+        self.assertEqual(place.put_variables(1), [4])
+        place.put_more(("given", 4), [])
+        self.assertIs(place.answer(()), False)
 
 
 class Weights(unittest.TestCase):
