@@ -96,7 +96,7 @@ class Unrolled:
     """Cycles one behind another: a graph, the registers' literals around each cycle, and the wishes in them."""
 
     def __init__(self, graph, states, wishes):
-        self.graph = graph
+        self.graph = row_kept(graph)
         self.states = row_kept(states)
         self.wishes = row_kept(wishes)
 

@@ -67,3 +67,27 @@ def input_widths(items):
 def top_of(design):
     """The name of the top of a design."""
     return design[-1][1]
+
+
+def top_items(design):
+    """The items of the top of a design, which may be without any module."""
+    return design[-1][2] if design else ()
+
+
+def output_called(design, name):
+    """The output of the top with a name, which may be any value; None if there is none."""
+    for item in of_kinds(top_items(design), ("output",)):
+        if isinstance(name, str) and item[1] == name:
+            return item
+    return None
+
+
+def is_wish(design, name):
+    """Whether any value is the name of an output of one bit of the top."""
+    item = output_called(design, name)
+    return item is not None and item[2] == 1
+
+
+def are_word_rows(value, widths):
+    """Whether any value is a row of rows of words, one for each of the widths; lists may stand for tuples."""
+    return is_row(value) and all([are_words(row, widths) for row in value])

@@ -66,9 +66,31 @@ INTERFACE = {
         "given_of": "machine, clauses", "against": "machine, clause", "against_wish": "machine", "Kept": "clauses, papers",
         "is_kept": "machine, told", "lessened": "machine, kept",
     },
+    "frames": {
+        "holds_at": "clause, state", "in_set": "machine, clauses, state", "not_state": "state", "break_in": "machine, clauses",
+        "way_past": "machine, clauses, clause", "shut": "machine, clauses, state", "Way": "state, inputs", "Shut": "clause",
+        "Frames": "machine, levels, stack", "begun": "machine", "frame": "frames, i", "stands": "frames",
+        "stepped": "frames", "measure": "frames", "settle": "machine",
+    },
+    "backs": {
+        "first_fall": "design, w, rows", "words_of": "design, rows", "bits_of": "design, rows", "run_text": "design, rows",
+        "rows_of": "design, text", "changes": "design, rows, names", "filling": "rows, mask, others",
+        "open_bits": "design, w, rows", "Open": "mask, lines", "clauses_for": "design, w, rows, mask",
+        "is_enough": "design, w, rows, mask, lines",
+    },
+    "pairs": {
+        "settled": "design, name", "Fallen": "rows", "is_settled": "design, name, told", "pair_of": "one, other",
+        "alike": "one, other",
+    },
+    "projects": {"Project": "text=''", "is_project_right": "project"},
 }
 METHODS_TOLD = {("graphs", "Graph"): {"__eq__": "self, other"}, ("clauses", "Machine"): {"__eq__": "self, other"},
-                ("graphs", "Builder"): {"graph": "self", "and_of": "self, one, other"}}
+                ("graphs", "Builder"): {"graph": "self", "and_of": "self, one, other"},
+                ("projects", "Project"): {
+                    "put": "self, text", "drop": "self, name", "wish": "self, name", "release": "self, name", "text": "self",
+                    "names": "self", "wishes": "self", "paper": "self, name", "run": "self, inputs",
+                    "may_be": "self, name, value", "undo": "self", "redo": "self", "attempt": "self, action",
+                    "trial": "self, action"}}
 LIBRARY = {"heapq": ("heapify", "heappop", "heappush")}
 # What comes back to itself, as deep as rows stand in rows, or modules in modules.
 BACK_TO_THEMSELVES = {"tuples_of", "state_with"}
@@ -92,7 +114,7 @@ type vars sys
 """.split())
 STATEMENTS = (
     ast.Assign, ast.AugAssign, ast.If, ast.While, ast.For, ast.Return, ast.Break, ast.Continue, ast.Pass, ast.Raise,
-    ast.Assert, ast.Delete, ast.Expr, ast.FunctionDef, ast.ClassDef, ast.ImportFrom,
+    ast.Assert, ast.Delete, ast.Expr, ast.FunctionDef, ast.ClassDef, ast.ImportFrom, ast.Try,
 )
 
 
@@ -187,7 +209,15 @@ class Code(unittest.TestCase):
     def test_statements(self):
         for name, node in nodes(ast.stmt):
             self.assertIsInstance(node, STATEMENTS, (name, node.lineno))
-        for name, node in nodes((ast.SetComp, ast.GeneratorExp, ast.Lambda, ast.Yield, ast.NamedExpr, ast.Global, ast.Try)):
+        for name, node in nodes(ast.Try):
+            # Only what puts things back in the end: names and attributes that take names.
+            self.assertFalse(node.handlers or node.orelse, (name, node.lineno))
+            for row in node.finalbody:
+                self.assertIsInstance(row, ast.Assign, (name, node.lineno))
+                for part in (*row.targets, row.value):
+                    for inner in part.elts if isinstance(part, ast.Tuple) else [part]:
+                        self.assertIsInstance(inner, (ast.Name, ast.Attribute), (name, node.lineno))
+        for name, node in nodes((ast.SetComp, ast.GeneratorExp, ast.Lambda, ast.Yield, ast.NamedExpr, ast.Global)):
             self.fail((name, node.lineno))
 
     def test_each_function_and_class_is_told(self):
@@ -293,7 +323,7 @@ class Code(unittest.TestCase):
             told = node.args
             self.assertFalse(told.vararg or told.kwarg or told.kwonlyargs or told.posonlyargs, (name, node.name))
             for default in told.defaults:
-                self.assertIn(ast.unparse(default), ("()", "0"), (name, node.name))
+                self.assertIn(ast.unparse(default), ("()", "0", "''"), (name, node.name))
             inner = [part for row in node.body for part in ast.walk(row)]
             self.assertFalse([part for part in inner if isinstance(part, (ast.FunctionDef, ast.ClassDef))], (name, node.name))
 

@@ -1,0 +1,149 @@
+"""What is asked of the states and cycles of a machine, again and again, of one search.
+
+A switch is a variable that stands in clauses so that these count only where the switch is assumed.
+"""
+
+from everycycle.asked import AskedSearch
+from everycycle.clauses import clauses_of, now, satisfies
+from everycycle.judge import against, against_wish
+
+# No lines are asked of this search, so its further clauses are all told alike.
+NO_LINE = ("given", 0)
+
+# Most ways that are looked for have just been found for a clause that is much the same.
+MOST_WAYS = 64
+
+
+class Questions:
+    """A machine with levels of state clauses: set i, from 1 on, is that of all clauses of level i and those above.
+
+    Set 0 is that of the reset state. Where the switch of a level is assumed, its clauses and those above it count.
+    ways are the last ones that were found, as triples (state, inputs, state behind).
+    """
+
+    def __init__(self, machine, levels):
+        self.machine = machine
+        self.levels = [()]
+        self.ways = []
+        self.search = AskedSearch(machine.graph.leaves + len(machine.graph.gates), clauses_of(machine.graph))
+        self.switches = self.search.put_variables(1)
+        for n, bit in enumerate(machine.resets, start=machine.inputs + 1):
+            self.search.put_more(NO_LINE, (n if bit == 1 else -n, -self.switches[0]))
+        for i, level in enumerate(levels, start=1):
+            self.put_level()
+            for clause in level:
+                self.put_clause(i, clause)
+
+    def put_level(self):
+        """Puts a level without clauses above the others."""
+        switch = self.search.put_variables(1)[0]
+        if len(self.switches) > 1:
+            self.search.put_more(NO_LINE, (-self.switches[-1], switch))
+        self.switches.append(switch)
+        self.levels.append([])
+
+    def put_clause(self, i, clause):
+        """Puts a state clause into level i."""
+        self.search.put_more(NO_LINE, (*now(self.machine, clause), -self.switches[i]))
+        self.levels[i].append(clause)
+
+    def is_there(self, i, assumed):
+        """Whether some cycle from a state of set i makes all of assumed true."""
+        others = self.switches[:i] if i > 0 else self.switches[1:]
+        return self.search.answer([self.switches[i], *[-switch for switch in others[::-1]], *assumed])
+
+    def pair(self):
+        """The pair (state, inputs) of the cycle that was found last."""
+        bits = tuple([self.value(2 * n) for n in range(1, self.machine.graph.leaves + 1)])
+        return bits[self.machine.inputs:], bits[:self.machine.inputs]
+
+    def value(self, literal):
+        """The value of a literal of the graph in the cycle that was found last."""
+        return (1 if self.search.truths[literal >> 1] == 1 else 0) ^ literal & 1
+
+    def put_way(self):
+        """Puts the way that was found last behind the others."""
+        state, inputs = self.pair()
+        self.ways.append((state, inputs, tuple([self.value(literal) for literal in self.machine.nexts])))
+        del self.ways[:-MOST_WAYS]
+
+    def is_in(self, i, state):
+        """Whether a state is in set i."""
+        if i == 0:
+            return state == self.machine.resets
+        return all([satisfies(state, clause) for level in self.levels[i:] for clause in level])
+
+    def known_way(self, i, clause):
+        """A pair (state, inputs) as way_out tells it, if a way that was found lately will do; else None."""
+        at = len(self.ways) - 1
+        while at >= 0:
+            state, inputs, later = self.ways[at]
+            if satisfies(state, clause) and not satisfies(later, clause) and self.is_in(i, state):
+                self.ways.append(self.ways.pop(at))
+                return state, inputs
+            at -= 1
+        return None
+
+    def break_from(self, i):
+        """A pair (state, inputs), the state in set i, with the wish 0; None if there is none."""
+        assumed = against_wish(self.machine)
+        if assumed is None or not self.is_there(i, assumed):
+            return None
+        return self.pair()
+
+    def way_out(self, i, clause):
+        """The pair (way, part) for set i and a clause.
+
+        The way is a pair (state, inputs), the state in the set and the clause holding there, but not behind the cycle;
+        or None. Then part are literals of the clause one of which holds behind each such cycle, else None.
+        """
+        way = self.known_way(i, clause)
+        if way is not None:
+            return way, None
+        assumed = against(self.machine, clause)
+        if assumed is None:
+            return None, clause
+        switch = self.search.put_variables(1)[0]
+        self.search.put_more(NO_LINE, (*now(self.machine, clause), -switch))
+        part = None
+        if self.is_there(i, [switch, *assumed]):
+            way = self.pair()
+            self.put_way()
+        else:
+            part = self.part_behind(clause, self.search.end_steps()[1])
+        # The clause is not asked for again.
+        self.search.put_more(NO_LINE, (-switch,))
+        return way, part
+
+    def part_behind(self, clause, left):
+        """The literals of a clause whose failing behind the cycle is among these literals of the search."""
+        used = {literal: True for literal in left}
+        return tuple([n for n in clause if [literal for literal in against(self.machine, (n,)) if literal in used]])
+
+    def part_into(self, i, clause):
+        """A part of a clause that holds at reset and into which set i leads beside itself; None for a wrong clause."""
+        if not satisfies(self.machine.resets, clause):
+            return None
+        _, part = self.way_out(i, clause)
+        return None if part is None else self.part_at_reset(part, clause)
+
+    def part_at_reset(self, part, clause):
+        """A part of a clause, with a literal more of the clause if it needs one to hold at reset."""
+        if satisfies(self.machine.resets, part):
+            return part
+        more = [n for n in clause if satisfies(self.machine.resets, (n,))]
+        return tuple([n for n in clause if n in part or n == more[0]])
+
+    def least_part(self, i, clause):
+        """A part of a clause, as part_into tells of it, none of whose literals can be left out."""
+        at, failed = 0, 0
+        while failed < len(clause):
+            at = at if at < len(clause) else 0
+            part = self.part_into(i, (*clause[:at], *clause[at + 1:]))
+            if part is None:
+                at += 1
+                failed += 1
+            else:
+                clause = part
+                failed = 0
+        return clause
