@@ -65,7 +65,7 @@ def net_machine(rule, inputs, registers, gates):
         one, other = (literals[-1 - rule.pick(min(30, len(literals)))] for _ in range(2))
         made = rule.one_of((xor_of, or_of, Builder.and_of))(builder, one, other ^ rule.pick(2))
         literals.append(2 + 2 * rule.pick(inputs + registers) if made < 2 or made in literals else made)
-    nexts = [literals[-1 - rule.pick(30)] for _ in range(registers)]
+    nexts = [literals[-1 - rule.pick(min(30, len(literals)))] for _ in range(registers)]
     wish = or_of(builder, or_of(builder, literals[-1], literals[-2]), or_of(builder, literals[-3], literals[-4]))
     return Machine(builder.graph(), inputs, [rule.pick(2) for _ in nexts], nexts, wish)
 
