@@ -7,7 +7,7 @@ from everycycle.errors import BadNumber, Missing, NoName, NotKept, NothingToRedo
 from everycycle.flats import flat
 from everycycle.judge import Kept, is_kept
 from everycycle.kinds import is_between
-from everycycle.pairs import free_name, need_output, settled
+from everycycle.pairs import free_name, settled
 from everycycle.states import greatest, is_wish, output_called, top_items, top_of
 from everycycle.texts import design_of, design_text
 
@@ -43,7 +43,6 @@ def is_kept_for(modules, name, paper):
 
 def paper_for(modules, name, paper):
     """The paper of a wish for other modules: the same one if it will do, otherwise a new one."""
-    need_output(modules, name)
     if is_kept_for(modules, name, paper):
         return paper
     told = settled(modules, name)
@@ -94,7 +93,6 @@ class Project:
     def wish(self, name):
         """Settles a wish, tells the answer, and has it stand if it is kept."""
         modules, wishes = self.held
-        need_output(modules, name)
         told = settled(modules, name)
         if isinstance(told, Kept) and name not in self.wishes():
             self.turn_to((modules, (*wishes, (name, told))))

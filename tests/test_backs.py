@@ -456,7 +456,7 @@ class Clauses(unittest.TestCase):
         self.assertIn((), clauses_for(counter_design(3, 7, 3), "good", ((1,),), ((0,),)))
 
 
-class Enough(unittest.TestCase):
+class Enough(Asking, unittest.TestCase):
     ROWS = ((4, 0), (0, 3), (5, 1))
 
     def setUp(self):
@@ -488,6 +488,11 @@ class Enough(unittest.TestCase):
         for value in (*anything(), Open(mask, lines), list(lines), lines[:-1], (), lines[::-1], [list(line) for line in lines]):
             self.assertIs(is_enough(WORDS, "w", self.ROWS, mask, value), False)
             self.assertIs(is_enough(WORDS, "w", self.ROWS, mask, (*lines[:-1], value)), False)
+
+    def test_names(self):
+        for name in ("two", "sum", "a", "", None, ["w"]):
+            self.assertFails(NoName, {"name": name}, clauses_for, WORDS, name, self.ROWS, self.told.mask)
+            self.assertFails(NoName, {"name": name}, is_enough, WORDS, name, self.ROWS, self.told.mask, self.told.lines)
 
     def test_fact_f(self):
         """Where lines are let by, every filling falls."""

@@ -360,6 +360,12 @@ class Steps(unittest.TestCase):
                     right, wrong = right + wanted, wrong + (not wanted)
         self.assertTrue(right > 200 and wrong > 200, (right, wrong))
 
+    def test_stacks_of_what_are_no_states_or_inputs(self):
+        self.assertIs(stands(Frames(HAND, (), (((0, 1), (0, 0)),))), False)
+        self.assertIs(stands(Frames(HAND, ((),), (((1, 1), (0, 0)),))), True)
+        for pair in (((1,), (0, 0)), ((1, 1), (0,)), ((1, 1, 1), (0, 0)), ((), ()), ((1, 1), (0, 2)), ((1, 2), (0, 0))):
+            self.assertIs(stands(Frames(HAND, ((),), (pair,))), False)
+
     def test_steps_from_frames_that_stand(self):
         """What stands need not have come from begun: levels with more clauses, or such that stand twice, or in another order."""
         many = twice = 0

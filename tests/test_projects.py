@@ -344,6 +344,12 @@ class Runs(Projects):
             project, walk = Project(text), Walk(design_of(text))
             self.assertEqual([self.hold(project, walk, "x", value) for value in range(4)], [1, 1, None, None])
 
+    def test_of_one_module_and_of_three(self):
+        one = "module only\ninput a: 1\nreg r: 2 = 0\nnext r = r + {1#0, a}\noutput at: 2 = r\noutput w: 1 = a\nend\n"
+        for text in (one, "module more\nend\n" + CELL + TOP):
+            project, walk = Project(text), Walk(design_of(text))
+            self.assertEqual([self.hold(project, walk, "at", value) for value in range(4)], [1, 2, 3, 4 if text == one else None])
+
     def test_errors(self):
         project = self.with_wishes("few")
         for name in ("a", "c", "o", "c.o", "top", "", "At", *anything()):
