@@ -41,6 +41,18 @@ class AskedSearch(Search):
             self.put(free[0], number)
         return number
 
+    def leave_out(self, number):
+        """Has a clause no longer looked at; its line stays."""
+        clause = self.clauses[number]
+        if len(clause) == 2:
+            for literal, other in (clause, clause[::-1]):
+                if (other, number) in self.pairs[literal]:
+                    self.pairs[literal].remove((other, number))
+        else:
+            for literal in clause[:2]:
+                if number in self.watching[literal]:
+                    self.watching[literal].remove(number)
+
     def put_end(self):
         """Puts the clause at which the last answer failed, as far as it is resolved; tells its number."""
         n, _ = self.failed

@@ -45,7 +45,7 @@ def asked_of(machine, clauses):
     """The pair (questions, number of the set that clauses tell)."""
     if clauses is None:
         return Questions(machine, ()), 0
-    return Questions(machine, (clauses,)), 1
+    return Questions(machine, (tuples_of(clauses),)), 1
 
 
 def break_in(machine, clauses):
@@ -57,7 +57,7 @@ def break_in(machine, clauses):
 def way_past(machine, clauses, clause):
     """A pair (state, inputs) of a cycle from the set and a clause to where the clause does not hold, or None."""
     questions, i = asked_of(machine, clauses)
-    return questions.way_out(i, clause)[0]
+    return questions.way_out(i, tuple(clause))[0]
 
 
 def shut(machine, clauses, state):
@@ -174,14 +174,14 @@ def with_shut(questions, frames, i):
     told = shut_in(questions, i - 1, stack[-1][0])
     if isinstance(told, Way):
         return Frames(machine, levels, (*stack, (told.state, told.inputs)))
-    return Frames(machine, with_clause(questions, levels, i, told.clause), stack[:-1])
+    questions.put_clause(i, told.clause)
+    return Frames(machine, with_clause(levels, i, told.clause), stack[:-1])
 
 
-def with_clause(questions, levels, i, clause):
-    """The levels with a clause in level i, of the questions, too."""
+def with_clause(levels, i, clause):
+    """The levels with a clause in level i."""
     if clause in levels[i - 1]:
         return levels
-    questions.put_clause(i, clause)
     return (*levels[:i - 1], (*levels[i - 1], clause), *levels[i:])
 
 
@@ -193,7 +193,8 @@ def lifted(questions, levels):
             if questions.way_out(i, clause)[1] is None:
                 staying.append(clause)
             else:
-                levels = with_clause(questions, levels, i + 1, clause)
+                questions.lift_clause(i, clause)
+                levels = with_clause(levels, i + 1, clause)
         levels = (*levels[:i - 1], tuple(staying), *levels[i:])
     return levels
 

@@ -6,25 +6,23 @@ A switch is a variable that stands in clauses so that these count only where the
 from everycycle.asked import AskedSearch
 from everycycle.clauses import clauses_of, now, satisfies
 from everycycle.judge import against, against_wish
+from everycycle.ways import Ways
 
 # No lines are asked of this search, so its further clauses are all told alike.
 NO_LINE = ("given", 0)
-
-# Most ways that are looked for have just been found for a clause that is much the same.
-MOST_WAYS = 64
 
 
 class Questions:
     """A machine with levels of state clauses: set i, from 1 on, is that of all clauses of level i and those above.
 
     Set 0 is that of the reset state. Where the switch of a level is assumed, its clauses and those above it count.
-    ways are the last ones that were found, as triples (state, inputs, state behind).
+    numbers tell for each level the numbers that its clauses have in the search.
     """
 
     def __init__(self, machine, levels):
         self.machine = machine
-        self.levels = [()]
-        self.ways = []
+        self.ways = Ways(machine)
+        self.numbers = [{}]
         self.search = AskedSearch(machine.graph.leaves + len(machine.graph.gates), clauses_of(machine.graph))
         self.switches = self.search.put_variables(1)
         for n, bit in enumerate(machine.resets, start=machine.inputs + 1):
@@ -40,17 +38,31 @@ class Questions:
         if len(self.switches) > 1:
             self.search.put_more(NO_LINE, (-self.switches[-1], switch))
         self.switches.append(switch)
-        self.levels.append([])
+        self.ways.levels.append({})
+        self.numbers.append({})
 
     def put_clause(self, i, clause):
-        """Puts a state clause into level i."""
-        self.search.put_more(NO_LINE, (*now(self.machine, clause), -self.switches[i]))
-        self.levels[i].append(clause)
+        """Puts a state clause into level i, unless it stands there."""
+        if clause not in self.numbers[i]:
+            told = (*now(self.machine, clause), -self.switches[i])
+            self.numbers[i][clause] = self.search.put_more(NO_LINE, told)
+            self.ways.put_clause(i, clause)
+
+    def lift_clause(self, i, clause):
+        """Puts a state clause of level i into the level above instead, unless it stands there."""
+        if clause in self.numbers[i]:
+            self.search.leave_out(self.numbers[i].pop(clause))
+            del self.ways.levels[i][clause]
+        self.put_clause(i + 1, clause)
 
     def is_there(self, i, assumed):
         """Whether some cycle from a state of set i makes all of assumed true."""
-        others = self.switches[:i] if i > 0 else self.switches[1:]
-        return self.search.answer([self.switches[i], *[-switch for switch in others[::-1]], *assumed])
+        # A switch that is closed closes those of the levels below, but not that of level 0.
+        if i == 0:
+            closed = self.switches[1:][-1:]
+        else:
+            closed = [self.switches[0], *self.switches[1:i][-1:]]
+        return self.search.answer([self.switches[i], *[-switch for switch in closed], *assumed])
 
     def pair(self):
         """The pair (state, inputs) of the cycle that was found last."""
@@ -60,29 +72,6 @@ class Questions:
     def value(self, literal):
         """The value of a literal of the graph in the cycle that was found last."""
         return (1 if self.search.truths[literal >> 1] == 1 else 0) ^ literal & 1
-
-    def put_way(self):
-        """Puts the way that was found last behind the others."""
-        state, inputs = self.pair()
-        self.ways.append((state, inputs, tuple([self.value(literal) for literal in self.machine.nexts])))
-        del self.ways[:-MOST_WAYS]
-
-    def is_in(self, i, state):
-        """Whether a state is in set i."""
-        if i == 0:
-            return state == self.machine.resets
-        return all([satisfies(state, clause) for level in self.levels[i:] for clause in level])
-
-    def known_way(self, i, clause):
-        """A pair (state, inputs) as way_out tells it, if a way that was found lately will do; else None."""
-        at = len(self.ways) - 1
-        while at >= 0:
-            state, inputs, later = self.ways[at]
-            if satisfies(state, clause) and not satisfies(later, clause) and self.is_in(i, state):
-                self.ways.append(self.ways.pop(at))
-                return state, inputs
-            at -= 1
-        return None
 
     def break_from(self, i):
         """A pair (state, inputs), the state in set i, with the wish 0; None if there is none."""
@@ -97,21 +86,22 @@ class Questions:
         The way is a pair (state, inputs), the state in the set and the clause holding there, but not behind the cycle;
         or None. Then part are literals of the clause one of which holds behind each such cycle, else None.
         """
-        way = self.known_way(i, clause)
+        way = self.ways.known(i, clause)
         if way is not None:
             return way, None
         assumed = against(self.machine, clause)
         if assumed is None:
             return None, clause
         switch = self.search.put_variables(1)[0]
-        self.search.put_more(NO_LINE, (*now(self.machine, clause), -switch))
+        number = self.search.put_more(NO_LINE, (*now(self.machine, clause), -switch))
         part = None
         if self.is_there(i, [switch, *assumed]):
             way = self.pair()
-            self.put_way()
+            self.ways.put_way(i, clause, way, [self.value(literal) for literal in self.machine.nexts])
         else:
-            part = self.part_behind(clause, self.search.end_steps()[1])
+            part = self.part_behind(clause, self.search.end_literals())
         # The clause is not asked for again.
+        self.search.leave_out(number)
         self.search.put_more(NO_LINE, (-switch,))
         return way, part
 

@@ -295,6 +295,21 @@ class Search:
                     asked.update({abs(other): True for other in self.clauses[reason]})
         return steps, left
 
+    def end_literals(self):
+        """The assumed literals, not all of which can be true, that made the last answer fail."""
+        n, own = self.failed
+        asked = {abs(other): True for other in self.clauses[n] if other != own}
+        left = [] if own == 0 else [-own]
+        first = self.starts[0] if self.starts else len(self.trail)
+        for literal in self.trail[first:][::-1]:
+            if abs(literal) in asked:
+                reason = self.reasons[abs(literal)]
+                if reason is None:
+                    left.append(literal)
+                else:
+                    asked.update({abs(other): True for other in self.clauses[reason]})
+        return left
+
     def end_lines(self):
         """The lines that show why the last answer failed."""
         n, _ = self.failed

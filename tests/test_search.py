@@ -164,6 +164,37 @@ class AskedMore(unittest.TestCase):
             for number in range(150):
                 self.grow(Rule(number + 7700))
 
+    def test_clauses_left_out(self):
+        """What is left out counts no longer, unless it is what is learnt from it; nothing else is lost."""
+        for number in range(250):
+            rule = Rule(number + 7900)
+            many = 3 + rule.pick(4)
+            staying = some_clauses(rule, many, 1 + rule.pick(2 * many))
+            place = AskedSearch(many, ())
+            for n, clause in enumerate(staying):
+                place.put_more(("given", n), clause)
+            rows = list(staying)
+            for _ in range(4):
+                # A clause that counts only where a further variable is true, which is then closed.
+                switch = place.put_variables(1)[0]
+                clause = (*some_clauses(rule, many, 1)[0][:rule.pick(4)], -switch)
+                at = place.put_more(("given", 0), clause)
+                rows = [*rows, clause]
+                assumed = some_assumed(rule, many)
+                right = self.right_bits(switch, rows)
+                for more in ((switch,), (-switch,)):
+                    wanted = any(all((bits[abs(n) - 1] == 1) == (n > 0) for n in (*assumed, *more)) for bits in right)
+                    self.assertIs(place.answer((*assumed, *more)), wanted)
+                    if not wanted:
+                        left = place.end_literals()
+                        self.assertEqual(sorted(left), sorted(place.end_steps()[1]))
+                        self.assertFalse(any(all((bits[abs(n) - 1] == 1) == (n > 0) for n in left) for bits in right))
+                place.leave_out(at)
+                place.put_more(("given", 0), (-switch,))
+                rows.append((-switch,))
+                self.assertFalse(any(at in row for row in place.watching))
+                self.assertFalse(any(at == other for row in place.pairs for _, other in row))
+
     def test_by_hand(self):
         place = AskedSearch(0, ())
         self.assertIs(place.answer(()), True)
