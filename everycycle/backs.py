@@ -7,6 +7,7 @@ from everycycle.errors import BadLine, BadRow, NoName
 from everycycle.flats import flat
 from everycycle.kinds import are_rows_of_bits, row_kept
 from everycycle.lines import is_refutation
+from everycycle.lots import cut_up
 from everycycle.search import Search
 from everycycle.solver import solve
 from everycycle.states import are_word_rows, greatest, input_widths, is_wish, of_kinds, top_items, top_of
@@ -189,7 +190,7 @@ def open_bits(design, w, rows):
     standing = {abs(literal): True for literal in kept}
     bits = [1 if n in standing else 0 for n in range(1, told.graph.leaves + 1)]
     size = sum(widths_of_inputs(design))
-    mask = words_of(design, [bits[size * k:size * (k + 1)] for k in range(len(rows))])
+    mask = words_of(design, cut_up(bits, size, len(rows)))
     clauses = clauses_for(design, w, rows, mask)
     return Open(mask, solve(told.graph.leaves + len(told.graph.gates), clauses).lines)
 

@@ -79,12 +79,12 @@ class InTime(unittest.TestCase):
         return told
 
     def first(self, machine, most, least):
-        told = self.timed(20, first_break, machine, most)
+        told = self.timed(60, first_break, machine, most)
         self.assertIs(told.__class__, NoBreak if least is None else FirstBreak)
         if least is not None:
             self.assertEqual(len(told.rows), least)
             self.assertEqual(cut_out(machine, told.rows), told.rows)
-        self.assertIs(self.timed(20, is_first_break, machine, most, told), True)
+        self.assertIs(self.timed(60, is_first_break, machine, most, told), True)
 
     def test_sixteen_cycles(self):
         for text, least in ((LOCK, 15), (PRODUCTS, None), (SQUARES, None), (COUNTER, 15)):
@@ -103,13 +103,13 @@ class InTime(unittest.TestCase):
         for number in range(12):
             machine = net_machine(Rule(number + 7300), 6, 8, 390)
             least = least_break(machine, 3)
-            told = self.timed(20, first_break, machine, 16)
+            told = self.timed(60, first_break, machine, 16)
             self.assertIs(is_first_break(machine, 16, told), True)
             if least is not None:
                 self.assertEqual(len(told.rows), least)
                 found += 1
             for k in (0, 4):
-                self.assertIs(is_by_steps(machine, k, self.timed(20, by_steps, machine, k)), True)
+                self.assertIs(is_by_steps(machine, k, self.timed(60, by_steps, machine, k)), True)
         self.assertGreater(found, 1)
 
     def test_steps(self):
@@ -117,12 +117,12 @@ class InTime(unittest.TestCase):
                             (SQUARES, (OpenSteps, KeptBySteps, KeptBySteps))):
             machine = told_machine(text)
             for k, kind in zip((0, 1, 4), kinds):
-                told = self.timed(20, by_steps, machine, k)
+                told = self.timed(60, by_steps, machine, k)
                 self.assertIs(told.__class__, kind)
-                self.assertIs(self.timed(20, is_by_steps, machine, k, told), True)
+                self.assertIs(self.timed(60, is_by_steps, machine, k, told), True)
         machine = counter(3, 0, 1, 7, 2)
         for k in range(9):
-            told = self.timed(20, by_steps, machine, k)
+            told = self.timed(60, by_steps, machine, k)
             self.assertIs(told.__class__, OpenSteps if k < 6 else KeptBySteps)
             self.assertIs(is_by_steps(machine, k, told), True)
 
@@ -130,18 +130,18 @@ class InTime(unittest.TestCase):
         counting = counter(8, 0, 99, 200)
         kept = kept_with(counting, [not_clause(tuple(n >> k & 1 for k in range(8))) for n in range(100, 256)])
         self.assertEqual(len(kept.clauses), 156)
-        self.assertIs(self.timed(20, is_kept, counting, kept), True)
-        less = self.timed(20, lessened, counting, kept)
+        self.assertIs(self.timed(60, is_kept, counting, kept), True)
+        less = self.timed(60, lessened, counting, kept)
         self.assertIs(is_kept(counting, less), True)
         self.assertLessEqual(len(less.clauses), len(kept.clauses))
 
     def test_long_papers(self):
         machine = told_machine(PRODUCTS)
         alike = [clause for n in range(1, 5) for clause in ((-n, n + 4), (n, -n - 4))]
-        kept = self.timed(20, kept_with, machine, alike)
-        self.assertIs(self.timed(20, is_kept, machine, kept), True)
+        kept = self.timed(60, kept_with, machine, alike)
+        self.assertIs(self.timed(60, is_kept, machine, kept), True)
         self.assertGreater(max(len(paper) for paper in kept.papers), 300)
-        less = self.timed(20, lessened, machine, Kept(kept.clauses, kept.papers))
+        less = self.timed(60, lessened, machine, Kept(kept.clauses, kept.papers))
         self.assertIs(is_kept(machine, less), True)
         self.assertIs(is_refutation((), kept.papers[0], against(machine, alike[0])), False)
         self.assertEqual(len(against_wish(machine)), 1)

@@ -111,7 +111,7 @@ class InTime(unittest.TestCase):
         self.assertLess(time.perf_counter() - start, seconds)
         return told
 
-    def settles(self, machine, least, seconds=20):
+    def settles(self, machine, least, seconds=60):
         told = self.timed(seconds, settle, machine)
         if least is None:
             self.assertIs(told.__class__, Kept)
@@ -144,41 +144,41 @@ class InTime(unittest.TestCase):
     def test_nets(self):
         for number in range(16):
             machine = net_machine(Rule(number + 7500), 6, 10, (390, 880)[number & 1])
-            told = self.timed(20, settle, machine)
+            told = self.timed(60, settle, machine)
             self.assertIs(is_break(machine, told.rows) if told.__class__ is Broken else is_kept(machine, told), True)
 
     def test_stands_and_measure(self):
         machine = net_machine(Rule(7), 3, 6, 200)
         told, last = begun(machine), None
         while isinstance(told, Frames):
-            self.assertIs(self.timed(20, stands, told), True)
-            found = self.timed(20, measure, told)
+            self.assertIs(self.timed(60, stands, told), True)
+            found = self.timed(60, measure, told)
             self.assertTrue(last is None or found < last)
-            last, told = found, self.timed(20, stepped, told)
+            last, told = found, self.timed(60, stepped, told)
 
     def test_questions_of_200_registers(self):
         """[2]: where no less is told, 200 registers and 400 gates."""
         machine = net_machine(Rule(8), 6, 200, 400)
         rule = Rule(9)
         clauses = [tuple(sorted({(1 + rule.pick(200)) for _ in range(3)})) for _ in range(20)]
-        pair = self.timed(20, break_in, machine, clauses)
+        pair = self.timed(60, break_in, machine, clauses)
         self.assertTrue(pair is None or (len(pair[0]), len(pair[1])) == (200, 6))
-        self.timed(20, way_past, machine, clauses, (3, -7, 90))
-        self.timed(20, break_in, machine, None)
+        self.timed(60, way_past, machine, clauses, (3, -7, 90))
+        self.timed(60, break_in, machine, None)
         state = tuple(rule.pick(2) for _ in range(200))
         self.timed(60, shut, machine, clauses, state)
         self.timed(60, shut, machine, None, state)
 
     def test_alike(self):
         one = codes(0, 0)
-        told = self.timed(20, alike, one, codes(24, 8))
+        told = self.timed(60, alike, one, codes(24, 8))
         self.assertIs(told.__class__, Kept)
-        self.assertIs(self.timed(20, alike, codes(3, 29), one).__class__, Kept)
-        told = self.timed(20, alike, one, codes(24, 9))
+        self.assertIs(self.timed(60, alike, codes(3, 29), one).__class__, Kept)
+        told = self.timed(60, alike, one, codes(24, 9))
         self.assertEqual((told.__class__, len(told.rows)), (Fallen, 1))
-        told = self.timed(20, alike, design_of(SLOW), design_of(QUICK))
+        told = self.timed(60, alike, design_of(SLOW), design_of(QUICK))
         self.assertEqual((told.__class__, len(told.rows)), (Fallen, 57))
-        told = self.timed(20, alike, design_of(SLOW), design_of(QUICK.replace("if x == 6#55 then 6#57 else ", "")))
+        told = self.timed(60, alike, design_of(SLOW), design_of(QUICK.replace("if x == 6#55 then 6#57 else ", "")))
         self.assertIs(told.__class__, Kept)
 
     def test_open_bits(self):
@@ -186,7 +186,7 @@ class InTime(unittest.TestCase):
                 "output w: 1 = ~(x[2] & x[0] ^ x[7] & x[6] & a[1])\nend\n")
         design = design_of(text)
         walk = Walk(design)
-        told = self.timed(20, settled, design, "w")
+        told = self.timed(60, settled, design, "w")
         self.assertEqual(len(told.rows), walk.least_fall("w"))
         rows = [(3,), (0,), (1,), (2,), (0,), (3,), (1,), (1,)]
         many = 0
@@ -195,32 +195,32 @@ class InTime(unittest.TestCase):
             fall = words.index(0) + 1 if 0 in words else None
             if fall is not None and fall <= 8:
                 some = tuple([(first,), *rows][:fall])
-                found = self.timed(20, open_bits, design, "w", some)
-                self.assertIs(self.timed(20, is_enough, design, "w", some, found.mask, found.lines), True)
+                found = self.timed(60, open_bits, design, "w", some)
+                self.assertIs(self.timed(60, is_enough, design, "w", some, found.mask, found.lines), True)
                 many += 1
         self.assertGreater(many, 0)
         # Eight cycles with two bits each.
         lock = design_of("module m\ninput a: 2\nreg x: 4 = 0\nnext x = if a == x[1:0] ^ x[3:2] then x + 4#1 else 4#0\n"
                          "output w: 1 = x != 4#7\nend\n".replace("a == x[1:0] ^ x[3:2]", "a == (x[1:0] ^ x[3:2])"))
-        told = self.timed(20, settled, lock, "w")
+        told = self.timed(60, settled, lock, "w")
         self.assertEqual(len(told.rows), 8)
-        found = self.timed(20, open_bits, lock, "w", told.rows)
+        found = self.timed(60, open_bits, lock, "w", told.rows)
         self.assertEqual(found.mask, ((3,),) * 7 + ((0,),))
 
     def test_projects(self):
         project = Project(STACK)
         design = design_of(STACK)
         for name in ("one", "two", "all", "low", "sum"):
-            self.assertIs(self.timed(20, project.wish, name).__class__, Kept)
+            self.assertIs(self.timed(60, project.wish, name).__class__, Kept)
         self.assertIs(project.wish("kind").__class__, Fallen)
         self.assertEqual([project.may_be("top", value)[0] for value in range(4)], [True, True, True, False])
         for name in project.wishes():
             self.assertIs(is_settled(design, name, project.paper(name)), True)
-        self.timed(20, project.put, STACK.split("module top")[0].replace("then 2#1", "then 2#0"))
+        self.timed(60, project.put, STACK.split("module top")[0].replace("then 2#1", "then 2#0"))
         self.assertEqual(len(project.wishes()), 5)
         with self.assertRaises(NotKept):
-            self.timed(20, project.put, STACK.split("module top")[0].replace("then 2#1", "then 2#3"))
-        self.assertIs(self.timed(20, is_project_right, project), True)
+            self.timed(60, project.put, STACK.split("module top")[0].replace("then 2#1", "then 2#3"))
+        self.assertIs(self.timed(60, is_project_right, project), True)
         self.assertLess(len(machine_of(flat(design), "all").graph.gates), 900)
 
 
