@@ -7,6 +7,7 @@ from everycycle.judge import Kept, against, against_wish, given_of
 from everycycle.kinds import row_kept, tuples_of
 from everycycle.questions import Questions
 from everycycle.search import Search
+from everycycle.tables import Table, is_small
 
 
 def holds_at(clause, state):
@@ -72,7 +73,38 @@ def shut_in(questions, i, state):
     way, part = questions.way_out(i, clause)
     if part is None:
         return Way(way[0], way[1])
-    return Shut(questions.least_part(i, questions.part_at_reset(part, clause)))
+    return Shut(least_part(questions, i, part_at_reset(questions.machine, part, clause)))
+
+
+def part_at_reset(machine, part, clause):
+    """A part of a clause, with a literal more of the clause if it needs one to hold at reset."""
+    if satisfies(machine.resets, part):
+        return part
+    more = [n for n in clause if satisfies(machine.resets, (n,))]
+    return tuple([n for n in clause if n in part or n == more[0]])
+
+
+def part_into(questions, i, clause):
+    """A part of a clause that holds at reset and into which set i leads beside itself; None for a wrong clause."""
+    if not satisfies(questions.machine.resets, clause):
+        return None
+    _, part = questions.way_out(i, clause)
+    return None if part is None else part_at_reset(questions.machine, part, clause)
+
+
+def least_part(questions, i, clause):
+    """A part of a clause, as part_into tells of it, none of whose literals can be left out."""
+    at, failed = 0, 0
+    while failed < len(clause):
+        at = at if at < len(clause) else 0
+        part = part_into(questions, i, (*clause[:at], *clause[at + 1:]))
+        if part is None:
+            at += 1
+            failed += 1
+        else:
+            clause = part
+            failed = 0
+    return clause
 
 
 class Frames:
@@ -216,7 +248,7 @@ def measure(frames):
 
 def settle(machine):
     """Broken with a least break, or Kept with a certificate."""
-    questions = Questions(machine, ())
+    questions = Table(machine) if is_small(machine) else Questions(machine, ())
     told = begun(machine)
     while isinstance(told, Frames):
         told = next_frames(questions, told)

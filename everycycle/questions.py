@@ -4,9 +4,8 @@ A switch is a variable that stands in clauses so that these count only where the
 """
 
 from everycycle.asked import AskedSearch
-from everycycle.clauses import clauses_of, now, satisfies
+from everycycle.clauses import clauses_of, now
 from everycycle.judge import against, against_wish
-from everycycle.ways import Ways
 
 # No lines are asked of this search, so its further clauses are all told alike.
 NO_LINE = ("given", 0)
@@ -21,7 +20,6 @@ class Questions:
 
     def __init__(self, machine, levels):
         self.machine = machine
-        self.ways = Ways(machine)
         self.numbers = [{}]
         self.search = AskedSearch(machine.graph.leaves + len(machine.graph.gates), clauses_of(machine.graph))
         self.switches = self.search.put_variables(1)
@@ -38,7 +36,6 @@ class Questions:
         if len(self.switches) > 1:
             self.search.put_more(NO_LINE, (-self.switches[-1], switch))
         self.switches.append(switch)
-        self.ways.levels.append({})
         self.numbers.append({})
 
     def put_clause(self, i, clause):
@@ -46,13 +43,11 @@ class Questions:
         if clause not in self.numbers[i]:
             told = (*now(self.machine, clause), -self.switches[i])
             self.numbers[i][clause] = self.search.put_more(NO_LINE, told)
-            self.ways.put_clause(i, clause)
 
     def lift_clause(self, i, clause):
         """Puts a state clause of level i into the level above instead, unless it stands there."""
         if clause in self.numbers[i]:
             self.search.leave_out(self.numbers[i].pop(clause))
-            del self.ways.levels[i][clause]
         self.put_clause(i + 1, clause)
 
     def is_there(self, i, assumed):
@@ -66,12 +61,8 @@ class Questions:
 
     def pair(self):
         """The pair (state, inputs) of the cycle that was found last."""
-        bits = tuple([self.value(2 * n) for n in range(1, self.machine.graph.leaves + 1)])
+        bits = tuple([1 if truth == 1 else 0 for truth in self.search.truths[1:self.machine.graph.leaves + 1]])
         return bits[self.machine.inputs:], bits[:self.machine.inputs]
-
-    def value(self, literal):
-        """The value of a literal of the graph in the cycle that was found last."""
-        return (1 if self.search.truths[literal >> 1] == 1 else 0) ^ literal & 1
 
     def break_from(self, i):
         """A pair (state, inputs), the state in set i, with the wish 0; None if there is none."""
@@ -86,18 +77,14 @@ class Questions:
         The way is a pair (state, inputs), the state in the set and the clause holding there, but not behind the cycle;
         or None. Then part are literals of the clause one of which holds behind each such cycle, else None.
         """
-        way = self.ways.known(i, clause)
-        if way is not None:
-            return way, None
         assumed = against(self.machine, clause)
         if assumed is None:
             return None, clause
         switch = self.search.put_variables(1)[0]
         number = self.search.put_more(NO_LINE, (*now(self.machine, clause), -switch))
-        part = None
+        way, part = None, None
         if self.is_there(i, [switch, *assumed]):
             way = self.pair()
-            self.ways.put_way(i, clause, way, [self.value(literal) for literal in self.machine.nexts])
         else:
             part = self.part_behind(clause, self.search.end_literals())
         # The clause is not asked for again.
@@ -109,31 +96,3 @@ class Questions:
         """The literals of a clause whose failing behind the cycle is among these literals of the search."""
         used = {literal: True for literal in left}
         return tuple([n for n in clause if [literal for literal in against(self.machine, (n,)) if literal in used]])
-
-    def part_into(self, i, clause):
-        """A part of a clause that holds at reset and into which set i leads beside itself; None for a wrong clause."""
-        if not satisfies(self.machine.resets, clause):
-            return None
-        _, part = self.way_out(i, clause)
-        return None if part is None else self.part_at_reset(part, clause)
-
-    def part_at_reset(self, part, clause):
-        """A part of a clause, with a literal more of the clause if it needs one to hold at reset."""
-        if satisfies(self.machine.resets, part):
-            return part
-        more = [n for n in clause if satisfies(self.machine.resets, (n,))]
-        return tuple([n for n in clause if n in part or n == more[0]])
-
-    def least_part(self, i, clause):
-        """A part of a clause, as part_into tells of it, none of whose literals can be left out."""
-        at, failed = 0, 0
-        while failed < len(clause):
-            at = at if at < len(clause) else 0
-            part = self.part_into(i, (*clause[:at], *clause[at + 1:]))
-            if part is None:
-                at += 1
-                failed += 1
-            else:
-                clause = part
-                failed = 0
-        return clause

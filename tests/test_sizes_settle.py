@@ -26,6 +26,14 @@ module ring
   output w: 1 = (x & (x - 10#1)) == 10#0
 end
 """
+LONG_RING = """
+module ring
+  input go: 2
+  reg x: 24 = 1
+  next x = if go[0] then {x[22:0], x[23]} else if go[1] then {x[0], x[23:1]} else x
+  output w: 1 = (x & (x - 24#1)) == 24#0
+end
+"""
 LONG = """
 module long
   input on: 1
@@ -36,6 +44,27 @@ module long
   next x = if x == 6#LAST then 6#0 else if z[0] ^ on then x + 6#1 else x
   next y = z[5:2] * y + {3#0, on}
   output w: 1 = x != 6#BAD
+end
+"""
+WALK = """
+module walk
+  input a: 1
+  input b: 1
+  reg x: 5 = 0
+  reg y: 5 = 0
+  next x = if a & x < 5#28 & STAY then x + 5#1 else x
+  next y = if ~a & b & y < 5#29 & (x * y) != 5#12 then y + 5#1 else y
+  output w: 1 = WISH
+end
+"""
+MIXED = """
+module mixed
+  input back: 1
+  reg x: 10 = 0
+  wire y: 10 = x * 10#TIMES + 10#MORE
+  wire z: 10 = (y ^ y >> SHIFT) * 10#TIMES + 10#MORE
+  next x = if back then 10#0 else z
+  output w: 1 = x != 10#BAD
 end
 """
 CODES = """
@@ -99,6 +128,14 @@ def codes(first, more):
     return design_of(CODES.replace("FIRST", str(first)).replace("ADD", str(more)))
 
 
+def walk_text(stay, wish):
+    return WALK.replace("STAY", stay).replace("WISH", wish)
+
+
+def mixed_text(times, more, shift, bad):
+    return MIXED.replace("TIMES", str(times)).replace("MORE", str(more)).replace("SHIFT", str(shift)).replace("BAD", str(bad))
+
+
 def long_text(last, bad):
     return LONG.replace("LAST", str(last)).replace("BAD", str(bad))
 
@@ -136,6 +173,16 @@ class InTime(unittest.TestCase):
         self.settles(told_machine(long_text(39, 40)), None)
         self.settles(told_machine(long_text(39, 39)), 40)
         self.settles(told_machine(long_text(58, 58)), 59)
+
+    def test_walks_and_mixed_states(self):
+        """Many ways of some 60 cycles; states that no few clauses tell apart."""
+        self.settles(told_machine(walk_text("(x ^ y) != 5#7", "~(x == 5#28 & y == 5#29)")), 58)
+        self.settles(told_machine(walk_text("x <= y", "~(x == 5#25 & y == 5#2)")), None)
+        self.settles(told_machine(mixed_text(827, 79, 5, 268)), 32)
+        self.settles(told_machine(mixed_text(827, 79, 5, 9)), None)
+
+    def test_more_registers(self):
+        self.settles(told_machine(LONG_RING), None)
 
     def test_counters(self):
         for reset, last, broken, least in ((0, 39, 39, 40), (0, 39, 40, None), (0, 39, 63, None), (30, 20, 31, 2), (30, 20, 19, 54), (0, 63, 63, 64)):
