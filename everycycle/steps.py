@@ -60,7 +60,8 @@ def by_steps(machine, k):
         if isinstance(begun, FirstBreak):
             return begun
         base = begun.papers
-    told = solve(*step_lot(machine, k))
+    variables, clauses = step_lot(machine, k)
+    told = solve(variables, clauses)
     if isinstance(told, Found):
         many = len(machine.resets)
         return OpenSteps(told.assignment[:many], cut_up(told.assignment[many:], machine.inputs, k + 1))

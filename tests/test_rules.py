@@ -148,6 +148,29 @@ def has_ring(leads):
     return False
 
 
+def is_plain(node):
+    """Whether it is a name, an attribute off a name, a literal, or a list, tuple or dict of these."""
+    if isinstance(node, ast.Attribute):
+        return isinstance(node.value, ast.Name)
+    if isinstance(node, (ast.List, ast.Tuple)):
+        return all([is_plain(part) for part in node.elts])
+    if isinstance(node, ast.Dict):
+        return all([is_plain(part) for part in (*node.keys, *node.values)])
+    return isinstance(node, (ast.Name, ast.Constant))
+
+
+def has_plain_stars(call):
+    """Whether all is plain behind the stars of a call and beside its `**`, behind which a name stands or an attribute."""
+    doubles = [part.value for part in call.keywords if part.arg is None]
+    held = bool(doubles)
+    for part in (*call.args, *call.keywords):
+        # What a star goes over stands behind it, and so do the arguments that come after it: L7 may mean either.
+        held = held or isinstance(part, ast.Starred)
+        if held and not is_plain(part.value if isinstance(part, (ast.Starred, ast.keyword)) else part):
+            return False
+    return all([isinstance(part, (ast.Name, ast.Attribute)) for part in doubles])
+
+
 class Files(unittest.TestCase):
     def test_the_folder_holds_nothing_else(self):
         for path in PACKAGE.iterdir():
@@ -270,6 +293,28 @@ class Code(unittest.TestCase):
             for node in ast.walk(tree):
                 if isinstance(node, ast.Name) and node.id in classes:
                     self.assertIn(id(node), right, (name, node.lineno))
+
+    def test_stars_in_calls(self):
+        for name, node in nodes(ast.Call):
+            self.assertTrue(has_plain_stars(node), (name, node.lineno, ast.unparse(node)))
+
+    def test_stars_in_calls_are_told_apart(self):
+        """What looks for wrong stars finds each kind of them, and lets the right ones by."""
+        for text in (
+            "f(*g(x))", "f(*box.rows())", "f(*xs[0])", "f(*xs[1:])", "f(*xs + ys)", "f(*[1] * 2)", "f(*-x)", "f(*xs or ys)",
+            "f(*box.row.now)", "f(*xs[0].now)", "f(*g(x).now)", "f(*(xs if x else ys))", "f(*[g(x)])", "f(*(a, xs[0]))",
+            "f(*[x for x in xs])", "f(*(x for x in xs))", "f(*{a: g(x)})", "f(*{xs[0]: 1})", "f(*[*xs, 1])", "f(*{**d})",
+            "f(*[(a, (b + c,))])", "f(k, *g(x))", "f(*xs, *g(x))", "f(*xs, g(x))", "f(*xs, n=g(x))", "box.told(*g(x))",
+            "f(**g(x))", "f(**d[k])", "f(**d | e)", "f(**box.row.now)", "f(**{'a': 1})", "f(g(x), **d)", "f(xs[0], **d)",
+            "f(a + b, **d)", "f(*g(x), **d)", "f(n=g(x), **d)",
+        ):
+            self.assertFalse(has_plain_stars(ast.parse(text, mode="eval").body), text)
+        for text in (
+            "f()", "f(g(x), xs[0], a + b, n=g(x))", "f(*xs)", "f(*box.rows)", "f(*'ab')", "f(*(1, None))", "f(*[a, box.b, 'c'])",
+            "f(*{a: 1, 'b': box.b})", "f(*[(a, (b, 2)), []])", "f(k, *xs)", "f(g(x), *xs)", "f(*xs, *ys)", "f(*xs, n, sep=n)",
+            "f(**d)", "f(**box.names)", "f(k, box.n, 1, **d)", "f(*xs, **d)", "f([*g(x), 1], (*xs[1:], *ys))", "f({**g(x)})",
+        ):
+            self.assertTrue(has_plain_stars(ast.parse(text, mode="eval").body), text)
 
     def test_signs(self):
         for name, node in nodes((ast.Pow, ast.Div, ast.Mod, ast.MatMult)):
